@@ -11,6 +11,8 @@ type checker struct {
 	ahead     []beginning
 	broken    []bool // of each For that is open: whether a Break belongs to it
 	types     []int  // of each node, TypeNone where it has none or it is open
+	means     []int  // of each node with a name in use: the Param, Var or Func
+	slots     []int  // of each Param and Var: how many variables are known where it begins
 	ends      []bool // of each node: whether it is a terminating statement
 	faults    []fault
 }
@@ -23,9 +25,11 @@ func newChecker(t api.Tree) *checker {
 		nodes:     t.Nodes,
 		left:      t.Funcs,
 		funcs:     map[string]int{},
-		variables: scopes{known: map[string]int{}},
+		variables: scopes{known: map[string]variable{}},
 		ahead:     make([]beginning, len(t.Nodes)),
 		types:     make([]int, len(t.Nodes)),
+		means:     make([]int, len(t.Nodes)),
+		slots:     make([]int, len(t.Nodes)),
 		ends:      make([]bool, len(t.Nodes)),
 	}
 	c.findBeginnings()
@@ -77,11 +81,11 @@ func (c *checker) node(number int) {
 	n := c.nodes[number]
 	switch {
 	case n.Kind == api.NodeParam:
-		c.declaration(n)
+		c.declaration(number)
 	case n.Kind == api.NodeFunc:
 		c.endOfFunc(n)
 	case n.Kind < api.NodeNum:
-		c.statement(n)
+		c.statement(number)
 		c.ends[number] = c.terminates(n)
 	default:
 		c.types[number] = c.expression(number)

@@ -13,7 +13,7 @@ func (c *checker) expression(number int) int {
 	case api.NodeNil:
 		return typeNil
 	case api.NodeName:
-		return c.variable(n)
+		return c.variable(number)
 	case api.NodeCall:
 		return c.call(number)
 	case api.NodeLen:
@@ -34,7 +34,7 @@ func (c *checker) expression(number int) int {
 
 func (c *checker) call(number int) int {
 	n := c.nodes[number]
-	f, ok := c.function(n)
+	f, ok := c.function(number)
 	if !ok {
 		return api.TypeNone
 	}

@@ -10,16 +10,17 @@ func (c *checker) endOfFunc(n api.Node) {
 	c.left = c.left[1:]
 }
 
-func (c *checker) statement(n api.Node) {
+func (c *checker) statement(number int) {
+	n := c.nodes[number]
 	switch n.Kind {
 	case api.NodeVar:
 		c.wantOrNil(n.Decl, n.Kids...)
-		c.declaration(n)
+		c.declaration(number)
 	case api.NodeSet:
-		c.wantOrNil(c.variable(n), n.Kids...)
+		c.wantOrNil(c.variable(number), n.Kids...)
 	case api.NodeSetAt:
 		c.want(api.TypeInt, n.Kids...)
-		if decl := c.variable(n); decl != api.TypeNone && decl != api.TypeInts {
+		if decl := c.variable(number); decl != api.TypeNone && decl != api.TypeInts {
 			c.tell(api.ErrType, n.At)
 		}
 	case api.NodePrint:
