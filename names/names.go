@@ -15,3 +15,15 @@ func Fits(name string) bool {
 	// No word and no number has a Name, and where there is more than a name its token's Name is shorter.
 	return len(tokens) == 1 && tokens[0].Name == name
 }
+
+// All tells whether the names of all things of a list fit, and no two of them are the same.
+func All[T any](list []T, name func(T) string) bool {
+	met := map[string]int{}
+	for _, x := range list {
+		if !Fits(name(x)) {
+			return false
+		}
+		met[name(x)]++
+	}
+	return len(met) == len(list)
+}

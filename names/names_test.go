@@ -42,3 +42,23 @@ func TestEveryByte(t *testing.T) {
 		}
 	}
 }
+
+func TestAll(t *testing.T) {
+	for _, x := range []struct {
+		list []string
+		want bool
+	}{
+		{nil, true},
+		{[]string{"a"}, true},
+		{[]string{"a", "b", "A", "_a"}, true},
+		{[]string{"a", "b", "a"}, false},
+		{[]string{"a", "a"}, false},
+		{[]string{"for"}, false},
+		{[]string{"a", "b", ""}, false},
+		{[]string{"1", "b"}, false},
+	} {
+		if is := names.All(x.list, func(name string) string { return name }); is != x.want {
+			t.Errorf("All(%q) = %v", x.list, is)
+		}
+	}
+}
