@@ -4,27 +4,28 @@ import (
 	"testing"
 
 	"quern/api"
+	"quern/sample"
 )
 
-func (d *dice) input() []int {
-	list := make([]int, d.below(12))
+func inputFrom(d *sample.Dice) []int {
+	list := make([]int, d.Below(12))
 	for i := range list {
-		list[i] = d.below(9) - 3
+		list[i] = d.Below(9) - 3
 	}
 	return list
 }
 
 // scattered is a tree with other places.
-func (d *dice) scattered(t api.Tree) api.Tree {
+func scattered(d *sample.Dice, t api.Tree) api.Tree {
 	s := copyOf(t)
 	for i := range s.Nodes {
 		n := &s.Nodes[i]
-		n.At = d.below(100) - 50
+		n.At = d.Below(100) - 50
 		switch n.Kind {
 		case api.NodeFunc:
-			n.Where, n.Close = d.below(100)-50, d.below(100)-50
+			n.Where, n.Close = d.Below(100)-50, d.Below(100)-50
 		case api.NodeParam, api.NodeVar, api.NodeSet, api.NodeSetAt, api.NodeName, api.NodeCall, api.NodeBinary:
-			n.Where = d.below(100) - 50
+			n.Where = d.Below(100) - 50
 		}
 	}
 	return s
@@ -39,19 +40,19 @@ type sorts struct {
 }
 
 // holdDrawn holds what is built of a text against the oracle, and its run against the tree's.
-func (s *sorts) holdDrawn(t *testing.T, d *dice, text string) {
+func (s *sorts) holdDrawn(t *testing.T, d *sample.Dice, text string) {
 	t.Helper()
 	x := read(t, text)
 	program, functions := oracle(x, d)
 	want := toldProgram(program)
-	r := runs{t, x, built(t, x), d.input()}
+	r := runs{t, x, built(t, x), inputFrom(d)}
 	if got := toldProgram(r.ssa); got != want {
 		t.Fatalf("%s\n%s\nwant\n%s", text, got, want)
 	}
-	if got := toldProgram(built(t, d.scattered(x))); got != want {
+	if got := toldProgram(built(t, scattered(d, x))); got != want {
 		t.Fatalf("%s\nwith other places:\n%s\nwant\n%s", text, got, want)
 	}
-	for _, steps := range []int{d.below(20), d.below(80)} {
+	for _, steps := range []int{d.Below(20), d.Below(80)} {
 		o := r.hold(steps)
 		if t.Failed() {
 			t.Fatalf("%s\ninput %v", text, r.input)
@@ -98,10 +99,10 @@ func (s *sorts) holdLeast(t *testing.T, least int) {
 
 func TestDrawnPrograms(t *testing.T) {
 	t.Parallel()
-	d := dice(0x9e3779b97f4a7c15)
+	d := sample.Dice(0x9e3779b97f4a7c15)
 	var s sorts
 	for i := range 4000 {
-		s.holdDrawn(t, &d, drawnText(&d, 3+d.below(30), i%2 == 0))
+		s.holdDrawn(t, &d, sample.DrawText(&d, 3+d.Below(30), i%2 == 0))
 	}
 	s.holdLeast(t, 15)
 }
@@ -109,10 +110,10 @@ func TestDrawnPrograms(t *testing.T) {
 // TestDrawnWays draws functions with many blocks, loops and variables.
 func TestDrawnWays(t *testing.T) {
 	t.Parallel()
-	d := dice(0x2545f4914f6cdd1d)
+	d := sample.Dice(0x2545f4914f6cdd1d)
 	var s sorts
 	for range 500 {
-		s.holdDrawn(t, &d, drawnText(&d, 60+d.below(120), true))
+		s.holdDrawn(t, &d, sample.DrawText(&d, 60+d.Below(120), true))
 	}
 	if t.Logf("%+v", s); s.phis[3] < 100 || s.preds[3] < 500 || s.taken < 5000 {
 		t.Error("the draw is of one sort")
@@ -121,9 +122,9 @@ func TestDrawnWays(t *testing.T) {
 
 func TestDrawnCounts(t *testing.T) {
 	t.Parallel()
-	d := dice(0xd1342543de82ef95)
+	d := sample.Dice(0xd1342543de82ef95)
 	for i := range 40 {
-		text := drawnText(&d, 20+d.below(60), i%3 > 0)
+		text := sample.DrawText(&d, 20+d.Below(60), i%3 > 0)
 		x := read(t, text)
 		_, functions := oracle(x, &d)
 		if holdCount(t, x, functions[0].count); t.Failed() {

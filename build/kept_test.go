@@ -7,6 +7,7 @@ import (
 
 	"quern/api"
 	"quern/build"
+	"quern/sample"
 )
 
 // spaced is the tree with spare room behind each of its lists, in which stand numbers and nodes.
@@ -72,60 +73,13 @@ func TestP1113NotKept(t *testing.T) {
 	}
 }
 
-// lists are all lists of numbers that a program has.
-func lists(s api.SSA) (all [][]int) {
-	for _, f := range s.Funcs {
-		all = append(all, f.Params)
-		for _, v := range f.Values {
-			all = append(all, v.Args)
-		}
-		for _, b := range f.Blocks {
-			all = append(all, b.Phis, b.Body, b.Preds, b.Term.To)
-		}
-	}
-	return all
-}
-
-// TestP1113NewMemory writes a number of its own over each list, spare room included, and then looks whether all have theirs.
+// TestP1113NewMemory writes over each list of an answer, spare room included.
 func TestP1113NewMemory(t *testing.T) {
 	x := read(t, everything)
 	other := built(t, x)
 	want := toldProgram(other)
-	s := built(t, x)
-	all := lists(s)
-	for i, list := range all {
-		for k := range list[:cap(list)] {
-			list[:cap(list)][k] = i
-		}
-	}
-	for i, list := range all {
-		for _, n := range list[:cap(list)] {
-			if n != i {
-				t.Fatalf("the lists %d and %d share memory", n, i)
-			}
-		}
-	}
-	for i := range s.Funcs {
-		f := &s.Funcs[i]
-		values, blocks := f.Values[:cap(f.Values)], f.Blocks[:cap(f.Blocks)]
-		for v := range values {
-			values[v] = api.Value{Op: -i}
-		}
-		for b := range blocks {
-			blocks[b] = api.Block{Term: api.Term{Kind: -i}}
-		}
-	}
-	for i, f := range s.Funcs {
-		for _, v := range f.Values[:cap(f.Values)] {
-			if v.Op != -i {
-				t.Fatalf("values of the function %d are another one's, too", i)
-			}
-		}
-		for _, b := range f.Blocks[:cap(f.Blocks)] {
-			if b.Term.Kind != -i {
-				t.Fatalf("blocks of the function %d are another one's, too", i)
-			}
-		}
+	if !sample.Parted(built(t, x)) {
+		t.Error("two lists share memory")
 	}
 	if toldProgram(other) != want || toldProgram(built(t, x)) != want {
 		t.Error("an answer that was written over is to be seen in another one")
@@ -137,7 +91,7 @@ func TestP1113Grown(t *testing.T) {
 	x := read(t, everything)
 	s := built(t, x)
 	want := toldProgram(s)
-	for _, list := range lists(s) {
+	for _, list := range sample.Lists(s) {
 		_ = append(list, -7, -8, -9)
 	}
 	for _, f := range s.Funcs {
@@ -152,10 +106,10 @@ func TestP1113Grown(t *testing.T) {
 
 // TestSameAgain builds one tree many times, several at once: maps and goroutines change nothing.
 func TestSameAgain(t *testing.T) {
-	d := dice(0x5851f42d4c957f2d)
+	d := sample.Dice(0x5851f42d4c957f2d)
 	trees := []api.Tree{read(t, everything)}
 	for range 20 {
-		trees = append(trees, read(t, drawnText(&d, 150, true)))
+		trees = append(trees, read(t, sample.DrawText(&d, 150, true)))
 	}
 	for _, x := range trees {
 		want := toldProgram(built(t, x))

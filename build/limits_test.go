@@ -9,6 +9,7 @@ import (
 
 	"quern/api"
 	"quern/build"
+	"quern/sample"
 	"quern/tree"
 	"quern/types"
 )
@@ -60,7 +61,7 @@ func sameTree(a, b api.Tree) bool {
 
 // TestP1101Turned turns each field of each node: what is no tree, or has other types, is refused, and nothing else is.
 func TestP1101Turned(t *testing.T) {
-	d := dice(5)
+	d := sample.Dice(5)
 	x := read(t, everything)
 	good, refused, others := 0, 0, 0
 	hold := func(turned api.Tree) {
@@ -325,7 +326,7 @@ func TestP1101Values(t *testing.T) {
 func TestP1101ValuesAtEveryPlace(t *testing.T) {
 	t.Parallel()
 	x := read(t, everything)
-	d := dice(11)
+	d := sample.Dice(11)
 	_, functions := oracle(x, &d)
 	for more := range functions[0].count {
 		holdError(t, "past the limit", padded(x, api.MaxValues-more), 0, api.ErrBuildValues)

@@ -4,6 +4,7 @@ import (
 	"slices"
 
 	"quern/api"
+	"quern/sample"
 )
 
 // The oracle builds by the chapter's sentences, one by one, with no thought of time or depth: values and blocks are
@@ -40,7 +41,7 @@ type oLoop struct{ head, behind *oBlock }
 // oFunction is one that the oracle builds.
 type oFunction struct {
 	api.Tree
-	dice      *dice
+	dice      *sample.Dice
 	scopes    [][]*oVariable
 	variables int
 	loops     []oLoop
@@ -52,7 +53,7 @@ type oFunction struct {
 }
 
 // oracle tells a program's SSA, and of each function its count.
-func oracle(t api.Tree, d *dice) (s api.SSA, functions []*oFunction) {
+func oracle(t api.Tree, d *sample.Dice) (s api.SSA, functions []*oFunction) {
 	for place, number := range t.Funcs {
 		f := &oFunction{Tree: t, dice: d}
 		s.Funcs = append(s.Funcs, f.build(t.Nodes[number]))
@@ -130,7 +131,7 @@ func (f *oFunction) statements(list []int) {
 			return
 		}
 		f.statement(number)
-		if f.dice.below(4) == 0 {
+		if f.dice.Below(4) == 0 {
 			f.takeOneAway()
 		}
 	}
@@ -375,7 +376,7 @@ func (f *oFunction) takeOneAway() bool {
 	if len(all) == 0 {
 		return false
 	}
-	x := all[f.dice.below(len(all))]
+	x := all[f.dice.Below(len(all))]
 	other := oOther(x.p)
 	f.taken++
 	x.b.phis = slices.DeleteFunc(x.b.phis, func(p *oValue) bool { return p == x.p })

@@ -9,6 +9,7 @@ import (
 	"testing"
 
 	"quern/api"
+	"quern/sample"
 	"quern/ssarun"
 )
 
@@ -32,7 +33,7 @@ type row struct {
 func holdRows(t *testing.T, rows []row) {
 	t.Helper()
 	for _, r := range rows {
-		s := program(t, r.text)
+		s := sample.SSA(r.text)
 		o, err := start(t, s, r.input).Run(100000)
 		if err != api.OK || told(o) != r.want {
 			t.Errorf("%s %v:\n%s %v, want\n%s", r.text, r.input, told(o), err, r.want)
@@ -65,16 +66,8 @@ func inMain(rows []row) []row {
 	return rows
 }
 
-// loop is the program of chapter 9's examples, P.
-const loop = `
-	main()
-	0: v0 const 0; jump 1
-	1: v1 phi.int v0 v6; v2 const 3; v3 lt v1 v2; branch v3 2 3
-	2: print v1; v5 const 1; v6 add v1 v5; jump 1
-	3: return`
-
 func TestExamples(t *testing.T) {
-	m := start(t, program(t, loop), nil)
+	m := start(t, sample.SSA(sample.Loop), nil)
 	if o, err := m.Run(-1); err != api.ErrFuel || told(o) != "running 0 0 0" {
 		t.Errorf("P, Run(-1): %s %v", told(o), err)
 	}
@@ -82,7 +75,7 @@ func TestExamples(t *testing.T) {
 		fuel int
 		want string
 	}{{0, "running 0 0 1"}, {7, "0 running 7 0 1"}, {100, "0 1 2 exit 31 0 1"}} {
-		if o, err := start(t, program(t, loop), nil).Run(x.fuel); err != api.OK || told(o) != x.want {
+		if o, err := start(t, sample.SSA(sample.Loop), nil).Run(x.fuel); err != api.OK || told(o) != x.want {
 			t.Errorf("P, Run(%d): %s %v, want %s", x.fuel, told(o), err, x.want)
 		}
 	}
@@ -97,32 +90,12 @@ func TestExamples(t *testing.T) {
 		0: v0 const 5; v1 call f v0; print v1; return`, nil, "5 exit 5 0 2"}})
 }
 
-// wrongs are programs that ssa.Check refuses, one for each of its errors.
-func wrongs(t *testing.T) map[api.Errno]api.SSA {
-	turned := func(turn func(f *api.SFunc)) api.SSA {
-		s := program(t, loop)
-		turn(&s.Funcs[0])
-		return s
-	}
-	return map[api.Errno]api.SSA{
-		api.ErrSSAForm:  turned(func(f *api.SFunc) { f.Name = "for" }),
-		api.ErrSSAPreds: turned(func(f *api.SFunc) { f.Blocks[1].Preds = []int{2, 0} }),
-		api.ErrSSAReach: turned(func(f *api.SFunc) {
-			f.Blocks = append(f.Blocks, api.Block{Preds: []int{4}, Term: api.Term{Kind: api.TermJump, Value: -1, To: []int{4}}})
-		}),
-		api.ErrSSAPhi:   turned(func(f *api.SFunc) { f.Values[1].Args = []int{0} }),
-		api.ErrSSATwice: turned(func(f *api.SFunc) { f.Blocks[3].Body = []int{5} }),
-		api.ErrSSAType:  turned(func(f *api.SFunc) { f.Values[3].Type = api.TypeInt }),
-		api.ErrSSAUse:   turned(func(f *api.SFunc) { f.Blocks[2].Body = []int{6, 4, 5} }),
-	}
-}
-
 func TestP1001Errors(t *testing.T) {
 	long := make([]int, api.MaxInput+1)
-	for e, s := range wrongs(t) {
+	for _, x := range sample.Wrongs() {
 		for _, input := range [][]int{nil, {1}, long[:api.MaxInput], long} {
-			if m, err := ssarun.New(s, input); m != nil || err != e {
-				t.Errorf("New of what is no SSA, %d numbers: %v, want %v", len(input), err, e)
+			if m, err := ssarun.New(x.Program, input); m != nil || err != x.Why {
+				t.Errorf("New of what is no SSA, %d numbers: %v, want %v", len(input), err, x.Why)
 			}
 		}
 	}
@@ -131,7 +104,7 @@ func TestP1001Errors(t *testing.T) {
 			t.Errorf("New(%+v): %v", s, err)
 		}
 	}
-	good := program(t, loop)
+	good := sample.SSA(sample.Loop)
 	if m, err := ssarun.New(good, long); m != nil || err != api.ErrInput {
 		t.Errorf("New with MaxInput + 1 numbers: %v", err)
 	}
@@ -142,12 +115,12 @@ func TestP1001Errors(t *testing.T) {
 
 func TestP1001Beginning(t *testing.T) {
 	for _, text := range []string{
-		loop,
+		sample.Loop,
 		"main()\n0: return",
 		"main()\n0: a const 1; panic a",
 		"f()\n0: return\nmain()\n0: a const 5; b alloc a; call f; print a; return",
 	} {
-		m := start(t, program(t, text), []int{1, 2})
+		m := start(t, sample.SSA(text), []int{1, 2})
 		for range 2 {
 			if o := m.Outcome(); told(o) != "running 0 0 1" || len(o.Events) != 0 {
 				t.Errorf("at the beginning of %s: %s", text, told(o))
@@ -164,7 +137,7 @@ func TestP1001AllOfTheInput(t *testing.T) {
 	for i := range input {
 		input[i] = i*i - 7
 	}
-	m := start(t, program(t, "main()\n0: jump 1\n1: a input; print a; jump 1"), input)
+	m := start(t, sample.SSA("main()\n0: jump 1\n1: a input; print a; jump 1"), input)
 	o, _ := m.Run(api.MaxFuel)
 	if o.End != api.Panic || o.Kind != api.PanicInput || o.Value != 0 || o.Steps != 1+3*api.MaxInput+1 || len(o.Events) != api.MaxInput {
 		t.Fatalf("%d events, End %d Kind %d, Steps %d", len(o.Events), o.End, o.Kind, o.Steps)
@@ -177,7 +150,7 @@ func TestP1001AllOfTheInput(t *testing.T) {
 }
 
 func TestP1002Fuel(t *testing.T) {
-	m := start(t, program(t, loop), nil)
+	m := start(t, sample.SSA(sample.Loop), nil)
 	m.Run(7)
 	for _, fuel := range []int{-1, -2, -1 << 32, math.MinInt, api.MaxFuel + 1, api.MaxFuel + 2, 1 << 62, math.MaxInt} {
 		o, err := m.Run(fuel)
@@ -204,7 +177,7 @@ func TestP1002BehindTheEnd(t *testing.T) {
 		{"0: a const 0; print a; b div a a; print a; return", nil, "0 stuck zero 3 0 1"},
 		{"0: a const 0; b alloc a; c input; print a; return", nil, "panic input 3 1 1"},
 	}) {
-		m := start(t, program(t, r.text), r.input)
+		m := start(t, sample.SSA(r.text), r.input)
 		m.Run(50)
 		for range 3 {
 			if m.Step() {
@@ -239,7 +212,7 @@ func TestP1002Rests(t *testing.T) {
 		{turns + "trapneg 1 d; trapzero 3 a; print a; return", api.Panic, all + 2},
 		{turns + "f div d a; print a; return", api.Stuck, all + 1},
 	} {
-		m := start(t, program(t, "main()\n"+x.text), nil)
+		m := start(t, sample.SSA("main()\n"+x.text), nil)
 		o, _ := m.Run(api.MaxFuel)
 		if len(o.Events) != api.MaxEvents || o.End != x.end || o.Steps != x.steps {
 			t.Errorf("%s: %d events, End %d, Steps %d, want %d", x.text, len(o.Events), o.End, o.Steps, x.steps)
@@ -254,7 +227,7 @@ func TestP1002Rests(t *testing.T) {
 }
 
 func TestP1002RestsStepByStep(t *testing.T) {
-	s := program(t, "main()\n0: a const 0; jump 1\n1: b phi.int a d; print b; c const 1; d add b c; jump 1")
+	s := sample.SSA("main()\n0: a const 0; jump 1\n1: b phi.int a d; print b; c const 1; d add b c; jump 1")
 	m := start(t, s, nil)
 	made := 0
 	for m.Step() {
@@ -352,7 +325,7 @@ func TestP1003ManyWays(t *testing.T) {
 		args.WriteString(" m" + n)
 	}
 	text.WriteString(strconv.Itoa(ways+1) + ": x phi.int" + args.String() + "; print x; return\n")
-	s := program(t, text.String())
+	s := sample.SSA(text.String())
 	for i := range ways {
 		want := strconv.Itoa(1001+i) + " exit " + strconv.Itoa(3+5*(i+1)+3) + " 0 1"
 		if o, _ := start(t, s, []int{i}).Run(10000); told(o) != want {
@@ -370,7 +343,7 @@ func TestP1003AStepForEachPhi(t *testing.T) {
 			text.WriteString("p" + strconv.Itoa(i) + " phi.int a; ")
 		}
 		text.WriteString("print a; return")
-		s := program(t, text.String())
+		s := sample.SSA(text.String())
 		m := start(t, s, nil)
 		if o, _ := m.Run(2 + phis); told(o) != "running "+strconv.Itoa(2+phis)+" 0 1" {
 			t.Errorf("%d Phis: %s", phis, told(o))
@@ -401,12 +374,13 @@ func TestP1004Arithmetic(t *testing.T) {
 	two := []string{"add", "sub", "mul", "div", "rem", "and", "or", "xor", "bic", "shl", "shr", "eq", "ne", "lt", "le"}
 	for _, a := range edges() {
 		for _, b := range edges() {
-			for _, op := range two {
+			for i, op := range two { // in the order of their numbers
+				number := api.InsAdd + i
 				print := "print c"
-				if typeOf(op) == api.TypeBool {
+				if number >= api.InsEq {
 					print = "printbool c"
 				}
-				s := program(t, "main()\n0: a input; b input; c "+op+" a b; "+print+"; return")
+				s := sample.SSA("main()\n0: a input; b input; c " + op + " a b; " + print + "; return")
 				o, _ := start(t, s, []int{a, b}).Run(9)
 				want := ""
 				switch {
@@ -414,19 +388,19 @@ func TestP1004Arithmetic(t *testing.T) {
 					want = "stuck zero 3 0 1"
 				case (op == "shl" || op == "shr") && b < 0:
 					want = "stuck shift 3 0 1"
-				case typeOf(op) == api.TypeBool:
-					want = strconv.FormatBool(arithmetic(opNames[op], []int{a, b}) == 1) + " exit 5 0 1"
+				case number >= api.InsEq:
+					want = strconv.FormatBool(arithmetic(number, []int{a, b}) == 1) + " exit 5 0 1"
 				default:
-					want = strconv.Itoa(arithmetic(opNames[op], []int{a, b})) + " exit 5 0 1"
+					want = strconv.Itoa(arithmetic(number, []int{a, b})) + " exit 5 0 1"
 				}
 				if told(o) != want {
 					t.Errorf("%s of %d and %d: %s, want %s", op, a, b, told(o), want)
 				}
 			}
 		}
-		for _, op := range []string{"neg", "inv"} {
-			s := program(t, "main()\n0: a input; c "+op+" a; print c; return")
-			if o, _ := start(t, s, []int{a}).Run(9); told(o) != strconv.Itoa(arithmetic(opNames[op], []int{a}))+" exit 4 0 1" {
+		for i, op := range []string{"neg", "inv"} {
+			s := sample.SSA("main()\n0: a input; c " + op + " a; print c; return")
+			if o, _ := start(t, s, []int{a}).Run(9); told(o) != strconv.Itoa(arithmetic(api.InsNeg+i, []int{a}))+" exit 4 0 1" {
 				t.Errorf("%s of %d: %s", op, a, told(o))
 			}
 		}
@@ -511,7 +485,7 @@ func TestP1004Traps(t *testing.T) {
 				if op == "trapzero" && a == 0 || op == "trapneg" && a < 0 {
 					want = "panic " + kinds[kind] + " 2 0 1"
 				}
-				s := program(t, "main()\n0: a input; "+op+" "+k+" a; print a; return")
+				s := sample.SSA("main()\n0: a input; " + op + " " + k + " a; print a; return")
 				if o, _ := start(t, s, []int{a}).Run(9); told(o) != want {
 					t.Errorf("%s %s of %d: %s, want %s", op, k, a, told(o), want)
 				}
@@ -521,7 +495,7 @@ func TestP1004Traps(t *testing.T) {
 				if a < 0 || a >= b {
 					want = "panic " + kinds[kind] + " 3 0 1"
 				}
-				s := program(t, "main()\n0: a input; b input; trapbound "+k+" a b; print a; return")
+				s := sample.SSA("main()\n0: a input; b input; trapbound " + k + " a b; print a; return")
 				if o, _ := start(t, s, []int{a, b}).Run(9); told(o) != want {
 					t.Errorf("trapbound %s of %d and %d: %s, want %s", k, a, b, told(o), want)
 				}
@@ -633,7 +607,7 @@ func TestP1005Terms(t *testing.T) {
 		{"0: x const 0; panic x", nil, "panic user 0 2 0 1"},
 		{"0: x const -9223372036854775808; print x; panic x", nil, "-9223372036854775808 panic user -9223372036854775808 3 0 1"},
 	}))
-	m := start(t, program(t, "main()\n0: jump 1\n1: jump 1"), nil)
+	m := start(t, sample.SSA("main()\n0: jump 1\n1: jump 1"), nil)
 	if o, err := m.Run(1 << 22); err != api.OK || told(o) != "running 4194304 0 1" {
 		t.Errorf("a block that jumps to itself: %s %v", told(o), err)
 	}
@@ -649,7 +623,7 @@ func TestP1005ValuesMadeAgain(t *testing.T) {
 // TestDeepCalls: no step takes longer for being deep.
 func TestDeepCalls(t *testing.T) {
 	const deep = 1 << 20
-	s := program(t, `down(n int) int
+	s := sample.SSA(`down(n int) int
 		0: zero const 0; c eq n zero; branch c 1 2
 		1: return zero
 		2: one const 1; m sub n one; x call down m; y add x one; return y
@@ -664,7 +638,7 @@ func TestDeepCalls(t *testing.T) {
 // TestDeepCallsOfLongFunctions: an activation does not take memory for values that it has not made.
 func TestDeepCallsOfLongFunctions(t *testing.T) {
 	const deep = 1 << 15
-	s := program(t, `down(n int) int
+	s := sample.SSA(`down(n int) int
 		0: zero const 0; c eq n zero; branch c 1 2
 		1: return zero
 		2: one const 1; m sub n one; x call down m; jump 3
@@ -687,7 +661,7 @@ func TestDeepCallsOfLongFunctions(t *testing.T) {
 
 // TestManyCalls: activations that have ended take no memory.
 func TestManyCalls(t *testing.T) {
-	s := program(t, `f(n int) int
+	s := sample.SSA(`f(n int) int
 		0: one const 1; m add n one; return m
 		main()
 		0: z const 0; jump 1
@@ -713,7 +687,7 @@ func taken() int64 {
 
 // TestEndedRunsLetGo: behind the end, and where it rests, a run keeps no more than its outcome.
 func TestEndedRunsLetGo(t *testing.T) {
-	s := program(t, `main()
+	s := sample.SSA(`main()
 		0: z const 0; n const 100000; a alloc n; jump 1
 		1: i phi.int z k; one const 1; k add i one; store a i one; c lt k n; branch c 1 2
 		2: return`)
@@ -747,34 +721,6 @@ func TestLongBlocks(t *testing.T) {
 	}
 }
 
-// spoil writes over all that a program has, spare room included.
-func spoil(s api.SSA) {
-	numbers := func(list []int) {
-		list = list[:cap(list)]
-		for i := range list {
-			list[i] = -77
-		}
-	}
-	functions := s.Funcs[:cap(s.Funcs)]
-	for i := range functions {
-		f := &functions[i]
-		numbers(f.Params)
-		values, blocks := f.Values[:cap(f.Values)], f.Blocks[:cap(f.Blocks)]
-		for v := range values {
-			numbers(values[v].Args)
-			values[v] = api.Value{Op: -1}
-		}
-		for b := range blocks {
-			numbers(blocks[b].Phis)
-			numbers(blocks[b].Body)
-			numbers(blocks[b].Preds)
-			numbers(blocks[b].Term.To)
-			blocks[b] = api.Block{Term: api.Term{Kind: -1}}
-		}
-		*f = api.SFunc{}
-	}
-}
-
 const busy = `f(n int, b bool) int
 	0: zero const 0; c eq n zero; branch c 1 2
 	1: x input; return x
@@ -784,81 +730,26 @@ const busy = `f(n int, b bool) int
 	1: i phi.int z k; s phi.int z p; one const 1; k add i one; x call f i t; store a i x; p add s x; c lt k four; branch c 1 2
 	2: j phi.int i; y load a j; print y; print p; return`
 
-// spaced is the program with spare room behind each of its lists, in which stand numbers.
-func spaced(s api.SSA) api.SSA {
-	room := func(list []int) []int {
-		list = append(slices.Clone(list), 5, 6, 7)
-		return list[:len(list)-3]
-	}
-	s.Funcs = append(slices.Clone(s.Funcs), api.SFunc{Name: "spare"})
-	s.Funcs = s.Funcs[:len(s.Funcs)-1]
-	for i := range s.Funcs {
-		f := &s.Funcs[i]
-		f.Params = room(f.Params)
-		f.Values = append(slices.Clone(f.Values), api.Value{Op: 3, Args: []int{1}})
-		f.Values = f.Values[:len(f.Values)-1]
-		f.Blocks = append(slices.Clone(f.Blocks), api.Block{Body: []int{1}})
-		f.Blocks = f.Blocks[:len(f.Blocks)-1]
-		for v := range f.Values {
-			f.Values[v].Args = room(f.Values[v].Args)
-		}
-		for b := range f.Blocks {
-			block := &f.Blocks[b]
-			block.Phis, block.Body, block.Preds, block.Term.To = room(block.Phis), room(block.Body), room(block.Preds), room(block.Term.To)
-		}
-	}
-	return s
-}
-
-// shape tells all that a program has, spare room included.
-func shape(s api.SSA) string {
-	var b strings.Builder
-	numbers := func(list []int) {
-		b.WriteString("[")
-		for _, n := range list[:cap(list)] {
-			b.WriteString(strconv.Itoa(n) + " ")
-		}
-		b.WriteString(strconv.Itoa(len(list)) + "]")
-	}
-	for _, f := range s.Funcs[:cap(s.Funcs)] {
-		b.WriteString(f.Name + " ")
-		numbers([]int{f.Result, len(f.Values), len(f.Blocks)})
-		numbers(f.Params)
-		for _, v := range f.Values[:cap(f.Values)] {
-			numbers([]int{v.Op, v.Type, v.Imm})
-			numbers(v.Args)
-		}
-		for _, x := range f.Blocks[:cap(f.Blocks)] {
-			numbers(x.Phis)
-			numbers(x.Body)
-			numbers(x.Preds)
-			numbers([]int{x.Term.Kind, x.Term.Value})
-			numbers(x.Term.To)
-		}
-	}
-	return b.String()
-}
-
 func TestP1006NotChangedNotKept(t *testing.T) {
 	input := []int{3, 1, 4, 1, 5}
-	want := told(oracleRun(program(t, busy), input, 1000, 1000))
+	want := told(oracleRun(sample.SSA(busy), input, 1000, 1000))
 	if !strings.Contains(want, "exit") {
 		t.Fatalf("the oracle: %s", want)
 	}
-	s := spaced(program(t, busy))
+	s := sample.Spaced(sample.SSA(busy))
 	given := append(slices.Clone(input), 8, 9)[:len(input)]
-	before, room := shape(s), slices.Clone(given[:cap(given)])
+	before, room := sample.Shape(s), slices.Clone(given[:cap(given)])
 	m := start(t, s, given)
 	m.Run(1000)
-	if shape(s) != before || !slices.Equal(given[:cap(given)], room) {
+	if sample.Shape(s) != before || !slices.Equal(given[:cap(given)], room) {
 		t.Error("what was handed in has changed")
 	}
 	for spoilt := range 130 {
-		s := spaced(program(t, busy))
+		s := sample.Spaced(sample.SSA(busy))
 		given := append(slices.Clone(input), 8, 9)[:len(input)]
 		m := start(t, s, given)
 		m.Run(spoilt)
-		spoil(s)
+		sample.Spoil(s)
 		for i := range given[:cap(given)] {
 			given[:cap(given)][i] = -1
 		}
@@ -866,10 +757,10 @@ func TestP1006NotChangedNotKept(t *testing.T) {
 			t.Fatalf("what was handed in, written over at the step %d: %s, want %s", spoilt, told(o), want)
 		}
 	}
-	for e, s := range wrongs(t) { // nor by a call that answers an error
-		s = spaced(s)
-		before := shape(s)
-		if _, err := ssarun.New(s, given); err != e || shape(s) != before || !slices.Equal(given[:cap(given)], room) {
+	for _, x := range sample.Wrongs() { // nor by a call that answers an error
+		s := sample.Spaced(x.Program)
+		before := sample.Shape(s)
+		if _, err := ssarun.New(s, given); err != x.Why || sample.Shape(s) != before || !slices.Equal(given[:cap(given)], room) {
 			t.Errorf("%v: what was handed in has changed", err)
 		}
 	}
@@ -877,7 +768,7 @@ func TestP1006NotChangedNotKept(t *testing.T) {
 
 func TestP1006AnswersAreNewMemory(t *testing.T) {
 	input := []int{3, 1, 4, 1, 5}
-	m, twin := start(t, program(t, busy), input), start(t, program(t, busy), input)
+	m, twin := start(t, sample.SSA(busy), input), start(t, sample.SSA(busy), input)
 	for {
 		a, b := m.Outcome(), m.Outcome()
 		c, _ := m.Run(0)
@@ -906,7 +797,7 @@ func TestP1006AnswersAreNewMemory(t *testing.T) {
 
 // TestP1006TwoRuns: heaps, inputs and numbers are each run's own.
 func TestP1006TwoRuns(t *testing.T) {
-	s := program(t, busy)
+	s := sample.SSA(busy)
 	inputs := [][]int{{3, 1, 4, 1, 5}, {10, 20, 30, 40}, {1}, nil}
 	var runs []*ssarun.Machine
 	for _, input := range inputs {

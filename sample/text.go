@@ -1,4 +1,4 @@
-package build_test
+package sample
 
 import (
 	"slices"
@@ -8,41 +8,8 @@ import (
 	"quern/api"
 )
 
-// dice: numbers that look drawn, the same ones each time.
-type dice uint64
-
-func (d *dice) below(n int) int {
-	*d ^= *d << 13
-	*d ^= *d >> 7
-	*d ^= *d << 17
-	return int(uint64(*d) >> 11 % uint64(n))
-}
-
-// The forms from which texts are drawn. Behind a $ stand: i, b, l for values (an int, a bool, a []int other than the
-// word nil); n for a []int or nil, x for an index, r for what a return has; I, B, L for variables of these types; k for
-// a call, v for a declaration, e for an if; s for the statements of a block, f for those of a loop, c for a counter's
-// condition with its loop, g for statements of a loop that it may leave behind them, t for statements that end.
-var (
-	statementForms = []string{"$v", "$v", "$v", "$I = $i;", "$I = $i;", "$I = $I;", "$B = $b;", "$B = $b;", "$L = $n;", "$L[$x] = $i;", "$L[$x] = $i;",
-		"print($i);", "print($i);", "print($b);", "print($b);", "$k;", "if $b {$s}", "if $b {$s}", "if $b {$s} else {$s}", "$e",
-		"for $c", "for $c", "for $b {$f}", "for {$g}", "for {$g}", "for {$f}", "{$s}", "return$r;", "panic($i);", "break;", "break;", "continue;", "continue;"}
-	flowForms = []string{"$v", "$I = $I;", "$I = $I;", "$I = $I + 1;", "$I = $i;", "$B = $B;", "$B = !$B;", "$B = $b;", "print($I);", "print($I);", "print($B);",
-		"if $b {$s}", "if $b {$s}", "if $B {$s} else {$s}", "$e", "for $c", "for $b {$f}", "for {$g}", "{$s}", "if $B { break; }", "if $B { continue; }", "if $b { return$r; }", "break;", "continue;"}
-	ifForms    = []string{"if $b {$s}", "if $b {$s} else {$s}", "if $b {$s} else $e", "if $b {$t} else $e", "if $b {$s} else {$t}"}
-	endForms   = []string{"return$r;", "return$r;", "return$r;", "panic($i);", "{$t}", "if $b {$t} else {$t}", "for {$s}"}
-	valueForms = map[byte][]string{
-		'i': {"$I", "$I", "$I", "$I", "0", "1", "7", "9223372036854775807", "input()", "len($l)", "$l[$x]", "-($i)", "^($i)", "($i) + ($i)", "($i) - ($i)", "($i) * ($i)",
-			"($i) / ($i)", "($i) % (($i) | 4)", "($i) & ($i)", "($i) | ($i)", "($i) ^ ($i)", "($i) &^ ($i)", "($i) << (($i) & 9)", "($i) >> ($i)", "$k"},
-		'b': {"$B", "$B", "$B", "true", "false", "!($b)", "($b) && ($b)", "($b) && ($b)", "($b) || ($b)", "($b) || ($b)", "($b) == ($b)", "($b) != ($b)",
-			"$l == nil", "nil != $l", "($i) == ($i)", "($i) != ($i)", "($i) < ($i)", "($i) <= ($i)", "($i) > ($i)", "($i) >= ($i)", "$k"},
-		'l': {"$L", "$L", "$L", "make([]int, 3)", "make([]int, 4)", "make([]int, ($i) & 7)", "make([]int, $i)", "$k"},
-	}
-	leafForms = map[byte][]string{
-		'i': {"$I", "$I", "$I", "2", "3", "input()"},
-		'b': {"$B", "$B", "$B", "true", "false"},
-		'l': {"$L", "$L", "make([]int, 5)"},
-	}
-)
+// goTypes: the types as MiniGo has them.
+var goTypes = []string{"", " int", " bool", " []int"}
 
 type variable struct {
 	name string
@@ -57,7 +24,7 @@ type signature struct {
 
 // writer writes the text of a program.
 type writer struct {
-	*dice
+	*Dice
 	strings.Builder
 	flow   bool // few operations, many ways
 	left   int  // statements
@@ -68,16 +35,17 @@ type writer struct {
 	result int
 }
 
-func drawnText(d *dice, size int, flow bool) string {
-	w := &writer{dice: d, flow: flow}
-	for i := range d.below(3) {
-		f := signature{name: "f" + strconv.Itoa(i), result: d.below(4)}
-		for k := range d.below(4) {
-			f.params = append(f.params, variable{"v" + strconv.Itoa(k), 1 + d.below(3)})
+// DrawText draws the text of a program of MiniGo, up to that many statements a function; with flow: of few operations and many ways.
+func DrawText(d *Dice, size int, flow bool) string {
+	w := &writer{Dice: d, flow: flow}
+	for i := range d.Below(3) {
+		f := signature{name: "f" + strconv.Itoa(i), result: d.Below(4)}
+		for k := range d.Below(4) {
+			f.params = append(f.params, variable{"v" + strconv.Itoa(k), 1 + d.Below(3)})
 		}
 		w.funcs = append(w.funcs, f)
 	}
-	w.funcs = slices.Insert(w.funcs, d.below(len(w.funcs)+1), signature{name: "main"})
+	w.funcs = slices.Insert(w.funcs, d.Below(len(w.funcs)+1), signature{name: "main"})
 	for _, f := range w.funcs {
 		w.left = size
 		w.function(f)
@@ -91,23 +59,23 @@ func (w *writer) function(f signature) {
 		if i > 0 {
 			w.WriteString(", ")
 		}
-		w.WriteString(p.name + typeNames[p.typ])
+		w.WriteString(p.name + goTypes[p.typ])
 	}
-	w.WriteString(")" + typeNames[f.result] + " {")
+	w.WriteString(")" + goTypes[f.result] + " {")
 	w.scopes, w.loops, w.result = [][]variable{f.params}, 0, f.result
-	for range w.below(5) {
+	for range w.Below(5) {
 		w.declare()
 	}
-	for range 1 + w.below(3) {
+	for range 1 + w.Below(3) {
 		w.statements()
 	}
 	for _, v := range w.known() { // what is asked here comes from far
-		if w.flow && v.typ != api.TypeInts && w.below(2) == 0 {
+		if w.flow && v.typ != api.TypeInts && w.Below(2) == 0 {
 			w.WriteString("print(" + v.name + ");")
 		}
 	}
 	if f.result != api.TypeNone {
-		w.draw(endForms, 0)
+		w.draw(endForms(), 0)
 	}
 	w.WriteString("}\n")
 }
@@ -118,7 +86,7 @@ func (w *writer) draw(forms []string, result int) {
 	defer func() { w.deep-- }()
 	form := ""
 	for form == "" {
-		form = forms[w.below(len(forms))]
+		form = forms[w.Below(len(forms))]
 		for i, letter := range []byte(form) {
 			if i > 0 && form[i-1] == '$' && !w.has(letter, result) {
 				form = ""
@@ -172,7 +140,7 @@ func (w *writer) part(letter byte, result int) {
 	case 'v':
 		w.declare()
 	case 'e':
-		w.draw(ifForms, 0)
+		w.draw(ifForms(), 0)
 	case 's', 't':
 		w.inside(letter)
 	default:
@@ -182,13 +150,13 @@ func (w *writer) part(letter byte, result int) {
 	}
 }
 
-func (w *writer) oneOf(names []string) string { return names[w.below(len(names))] }
+func (w *writer) oneOf(names []string) string { return names[w.Below(len(names))] }
 
 // inside writes what stands within a block; of a counter's loop also what stands ahead of it.
 func (w *writer) inside(letter byte) {
 	if letter == 'c' {
 		counter := w.oneOf(w.variables('I'))
-		w.WriteString(counter + " < " + strconv.Itoa(w.below(6)) + " {" + counter + " = " + counter + " + 1; ")
+		w.WriteString(counter + " < " + strconv.Itoa(w.Below(6)) + " {" + counter + " = " + counter + " + 1; ")
 		defer w.WriteString("}")
 	}
 	w.scopes = append(w.scopes, nil)
@@ -197,34 +165,34 @@ func (w *writer) inside(letter byte) {
 	case 'g':
 		w.draw([]string{"if $b { break; }", "if $b { continue; }", "if $b { break; } else { continue; }"}, 0)
 	case 't':
-		w.draw(endForms, 0)
+		w.draw(endForms(), 0)
 	}
 	w.scopes = w.scopes[:len(w.scopes)-1]
 }
 
 func (w *writer) statements() {
-	for w.left > 0 && w.below(7) > 0 {
+	for w.left > 0 && w.Below(7) > 0 {
 		w.left--
 		if w.flow {
-			w.draw(flowForms, -1)
+			w.draw(flowForms(), -1)
 		} else {
-			w.draw(statementForms, -1)
+			w.draw(statementForms(), -1)
 		}
 	}
 }
 
 func (w *writer) value(letter byte) {
 	typ := strings.IndexByte("-ibl", letter)
-	if w.deep > 8 || w.below(2) == 0 || w.flow && w.below(3) > 0 {
-		w.draw(leafForms[letter], typ)
+	if w.deep > 8 || w.Below(2) == 0 || w.flow && w.Below(3) > 0 {
+		w.draw(leafForms(letter), typ)
 	} else {
-		w.draw(valueForms[letter], typ)
+		w.draw(valueForms(letter), typ)
 	}
 }
 
 // declared writes a value where the type is declared: there nil may stand.
 func (w *writer) declared(typ int) {
-	if typ == api.TypeInts && w.below(4) == 0 {
+	if typ == api.TypeInts && w.Below(4) == 0 {
 		w.WriteString("nil")
 		return
 	}
@@ -234,15 +202,15 @@ func (w *writer) declared(typ int) {
 // declare writes a declaration of a name that the innermost scope doesn't have; it may hide a variable or a function.
 func (w *writer) declare() {
 	inner := &w.scopes[len(w.scopes)-1]
-	v := variable{typ: 1 + w.below(3)}
+	v := variable{typ: 1 + w.Below(3)}
 	for v.name == "" || slices.ContainsFunc(*inner, func(u variable) bool { return u.name == v.name }) {
-		v.name = "v" + strconv.Itoa(w.below(4+len(*inner)))
-		if w.below(16) == 0 {
-			v.name = w.funcs[w.below(len(w.funcs))].name
+		v.name = "v" + strconv.Itoa(w.Below(4+len(*inner)))
+		if w.Below(16) == 0 {
+			v.name = w.funcs[w.Below(len(w.funcs))].name
 		}
 	}
-	w.WriteString("var " + v.name + typeNames[v.typ])
-	if w.below(4) > 0 {
+	w.WriteString("var " + v.name + goTypes[v.typ])
+	if w.Below(4) > 0 {
 		w.WriteString(" = ")
 		w.declared(v.typ)
 	}
@@ -285,7 +253,7 @@ func (w *writer) functions(result int) (list []signature) {
 }
 
 func (w *writer) call(list []signature) {
-	f := list[w.below(len(list))]
+	f := list[w.Below(len(list))]
 	w.WriteString(f.name + "(")
 	for i, p := range f.params {
 		if i > 0 {

@@ -1,0 +1,33 @@
+package sample
+
+import "quern/api"
+
+// Parted tells whether each list of a program, spare room included, is memory of its own. The program is spoilt by it.
+func Parted(s api.SSA) bool {
+	var values [][]api.Value
+	var blocks [][]api.Block
+	for _, f := range s.Funcs {
+		values, blocks = append(values, f.Values), append(blocks, f.Blocks)
+	}
+	return apart(Lists(roomToo(s)), func(n int) int { return n }, func(n int) int { return n }) &&
+		apart(values, func(n int) api.Value { return api.Value{Op: n} }, func(v api.Value) int { return v.Op }) &&
+		apart(blocks, func(n int) api.Block { return api.Block{Term: api.Term{Kind: n}} }, func(b api.Block) int { return b.Term.Kind })
+}
+
+// apart writes over each list, up to the end of its room, what tells its number; and then looks whether all still tell theirs.
+func apart[T any](lists [][]T, mark func(number int) T, told func(x T) int) bool {
+	for i, list := range lists {
+		list = list[:cap(list)]
+		for k := range list {
+			list[k] = mark(i)
+		}
+	}
+	for i, list := range lists {
+		for _, x := range list[:cap(list)] {
+			if told(x) != i {
+				return false
+			}
+		}
+	}
+	return true
+}

@@ -1,0 +1,116 @@
+package sample_test
+
+import (
+	"strings"
+	"testing"
+
+	"quern/api"
+	"quern/lex"
+	"quern/parse"
+	"quern/sample"
+	"quern/ssa"
+	"quern/types"
+)
+
+const all = `f(v0 int, v1 bool, v2 ints) bool
+0: v3 const -3; v4 const true; v5 const nil; v6 input; branch v1 1 2
+1: v7 add v0 v3; v8 call f v7 v4 v5; jump 2
+2: v9 phi.int v0 v7; v10 phi.bool v1 v8; v11 phi.ints v2 v5; v12 print v9; v13 trapbound 2 v9 v3; v14 store v11 v9 v9; branch v10 3 4
+3: return v10
+4: panic v9
+main()
+0: v0 call g; return
+g()
+0: return
+`
+
+func TestReadAndTell(t *testing.T) {
+	s := sample.SSA(all)
+	if e := ssa.Check(s); e != api.OK || s.Main != 1 || sample.Tell(s) != all {
+		t.Errorf("%v, main %d:\n%s", e, s.Main, sample.Tell(s))
+	}
+	for _, x := range []struct{ what, text, want string }{
+		{"by places", "main()\n0: a const 1; print a; b neg a; panic b", "main()\n0: v0 const 1; v1 print v0; v2 neg v0; panic v2\n"},
+		{"by numbers", "main()\n0: v1 const 1; v0 print v1; return", "main()\n0: v1 const 1; v0 print v1; return\n"},
+		{"of parameters, too", "f(v1 int) int\n0: v0 neg v1; return v0\nmain()\n0: return", "f(v1 int) int\n0: v0 neg v1; return v0\nmain()\n0: return\n"},
+	} {
+		s := sample.SSA(x.text)
+		if e := ssa.Check(s); e != api.OK || sample.Tell(s) != x.want {
+			t.Errorf("%s: %v:\n%s", x.what, e, sample.Tell(s))
+		}
+	}
+	for _, text := range []string{"main()\n0: a nothing b; return", "main()\n0: print b; return", "main()\n0: a const x; return", "main()\n0: leave", "main() text\n0: return"} {
+		func() {
+			defer func() {
+				if recover() == nil {
+					t.Errorf("%s is read", text)
+				}
+			}()
+			sample.SSA(text)
+		}()
+	}
+}
+
+func TestDrawn(t *testing.T) {
+	d := sample.Dice(1)
+	for range 1000 {
+		s := sample.DrawSSA(&d)
+		told := sample.Tell(s)
+		if e := ssa.Check(s); e != api.OK || sample.Tell(sample.Spaced(s)) != told {
+			t.Fatalf("%v:\n%s", e, told)
+		}
+		if e := ssa.Check(sample.Mixed(&d, s)); e != api.OK || sample.Tell(s) != told {
+			t.Fatalf("mixed: %v:\n%s", e, told)
+		}
+	}
+	for i := range 300 {
+		text := sample.DrawText(&d, d.Below(40), i%2 == 0)
+		tokens, _, e := lex.Tokens([]byte(text))
+		tree, _, _, no := parse.Parse(tokens, len(text))
+		if _, at, why := types.Types(tree); e != api.OK || no != api.OK || why != api.OK {
+			t.Fatalf("%v, %v, %v at %d: %s", e, no, why, at, text)
+		}
+	}
+}
+
+func TestWrongs(t *testing.T) {
+	var met []api.Errno
+	for _, x := range sample.Wrongs() {
+		if e := ssa.Check(x.Program); e != x.Why {
+			t.Errorf("%v, want %v", e, x.Why)
+		}
+		met = append(met, x.Why)
+	}
+	if len(met) != int(api.ErrSSAUse-api.ErrSSAForm)+1 {
+		t.Errorf("not all errors: %v", met)
+	}
+}
+
+// TestMemory: what the tests of other packages lean on is told, in lists and in their spare room.
+func TestMemory(t *testing.T) {
+	s := sample.Spaced(sample.SSA(all))
+	before := sample.Shape(s)
+	for i, list := range sample.Lists(s) {
+		list[:cap(list)][cap(list)-1]++
+		if sample.Shape(s) == before {
+			t.Errorf("the list %d: what was written into its spare room is not told", i)
+		}
+		list[:cap(list)][cap(list)-1]--
+	}
+	if sample.Shape(s) != before || !strings.Contains(before, "spare") {
+		t.Error("two shapes of one program")
+	}
+	if !sample.Parted(sample.Spaced(s)) {
+		t.Error("parted lists are told to share memory")
+	}
+	shared := sample.Spaced(s)
+	b := shared.Funcs[0].Blocks
+	b[1].Preds = b[2].Preds[:0]
+	if sample.Parted(shared) {
+		t.Error("lists that share memory are not told")
+	}
+	sample.Spoil(s)
+	if s.Funcs[0].Values != nil || s.Funcs[:cap(s.Funcs)][len(s.Funcs)].Name != "" {
+		t.Error("not all is spoilt")
+	}
+}
