@@ -109,7 +109,7 @@ func (r *reader) function(f *api.SFunc, lines []string) {
 				b.Body = append(b.Body, put(v))
 			}
 		}
-		b.Term = r.term(parts[len(parts)-1])
+		b.Term = term(parts[len(parts)-1], r.numberOf)
 		f.Blocks = append(f.Blocks, b)
 	}
 	f.Values = values
@@ -235,18 +235,19 @@ func number(text string) int {
 	return n
 }
 
-func (r *reader) term(words []string) api.Term {
+// term is the end of a block, whose Value has the number that its name stands for.
+func term(words []string, numberOf func(name string) int) api.Term {
 	switch {
 	case words[0] == "jump":
 		return api.Term{Kind: api.TermJump, Value: -1, To: []int{number(words[1])}}
 	case words[0] == "branch":
-		return api.Term{Kind: api.TermBranch, Value: r.numberOf(words[1]), To: []int{number(words[2]), number(words[3])}}
+		return api.Term{Kind: api.TermBranch, Value: numberOf(words[1]), To: []int{number(words[2]), number(words[3])}}
 	case words[0] == "panic":
-		return api.Term{Kind: api.TermPanic, Value: r.numberOf(words[1])}
+		return api.Term{Kind: api.TermPanic, Value: numberOf(words[1])}
 	case words[0] != "return":
 		panic("no end of a block: " + words[0])
 	case len(words) == 2:
-		return api.Term{Kind: api.TermReturn, Value: r.numberOf(words[1])}
+		return api.Term{Kind: api.TermReturn, Value: numberOf(words[1])}
 	}
 	return api.Term{Kind: api.TermReturn, Value: -1}
 }

@@ -6,6 +6,7 @@ import (
 
 	"quern/api"
 	"quern/lex"
+	"quern/lir"
 	"quern/parse"
 	"quern/sample"
 	"quern/ssa"
@@ -111,6 +112,80 @@ func TestMemory(t *testing.T) {
 	}
 	sample.Spoil(s)
 	if s.Funcs[0].Values != nil || s.Funcs[:cap(s.Funcs)][len(s.Funcs)].Name != "" {
+		t.Error("not all is spoilt")
+	}
+}
+
+const allLIR = `f(r3, r1) bool regs 9
+0: r0 const -3; r2 input; r8 move r2; branch r1 1 2
+1: r4 add r0 r3; r5 call f r4 r1; call f r4 r5; jump 2
+2: print r3; printbool r1; trapbound 2 r3 r0; trapzero 5 r0; store r3 r3 r0; branch r1 3 4
+3: return r1
+4: panic r0
+main() regs 0
+0: call g; return
+g() regs 1
+0: r0 alloc r0; return
+`
+
+func TestReadAndTellLIR(t *testing.T) {
+	l := sample.LIR(allLIR)
+	if l.Main != 1 || l.Funcs[0].Regs != 9 || len(l.Funcs[0].Params) != 2 || sample.TellLIR(l) != allLIR {
+		t.Errorf("main %d:\n%s", l.Main, sample.TellLIR(l))
+	}
+	if is, want := sample.TellLIR(sample.LIR("main()\n0: r1 const 1; r0 neg r1; panic r7")), "main() regs 8\n0: r1 const 1; r0 neg r1; panic r7\n"; is != want {
+		t.Errorf("%s, want %s", is, want)
+	}
+	for _, text := range []string{"main()\n0: r1 nothing r0; return", "main()\n0: print b; return", "main()\n0: a const 1; return", "main()\n0: r1 const x; return", "main()\n0: leave", "main()\n0: call g; return", "main() text\n0: return"} {
+		func() {
+			defer func() {
+				if recover() == nil {
+					t.Errorf("%s is read", text)
+				}
+			}()
+			sample.LIR(text)
+		}()
+	}
+}
+
+func TestDrawnLIR(t *testing.T) {
+	d := sample.Dice(1)
+	for range 1000 {
+		l := sample.DrawLIR(&d)
+		told := sample.TellLIR(l)
+		again := sample.LIR(told)
+		again.Main = l.Main
+		if e := lir.Check(l); e != api.OK || sample.TellLIR(sample.SpacedLIR(l)) != told || sample.ShapeLIR(sample.SpacedLIR(again)) != sample.ShapeLIR(sample.SpacedLIR(l)) {
+			t.Fatalf("%v:\n%s", e, told)
+		}
+	}
+}
+
+func TestMemoryLIR(t *testing.T) {
+	l := sample.SpacedLIR(sample.LIR(allLIR))
+	before := sample.ShapeLIR(l)
+	for i, list := range sample.LIRLists(l) {
+		if cap(list) == 0 { // of what stands in spare room
+			continue
+		}
+		list[:cap(list)][cap(list)-1]++
+		if sample.ShapeLIR(l) == before {
+			t.Errorf("the list %d: what was written into its spare room is not told", i)
+		}
+		list[:cap(list)][cap(list)-1]--
+	}
+	body := l.Funcs[0].Blocks[0].Body
+	body[:cap(body)][len(body)].Imm++
+	if sample.ShapeLIR(l) == before {
+		t.Error("what was written into a Body's spare room is not told")
+	}
+	body[:cap(body)][len(body)].Imm--
+	if sample.ShapeLIR(l) != before || !strings.Contains(before, "spare") {
+		t.Error("two shapes of one program")
+	}
+	block := l.Funcs[0].Blocks[0]
+	sample.SpoilLIR(l)
+	if l.Funcs[0].Blocks != nil || l.Funcs[:cap(l.Funcs)][len(l.Funcs)].Name != "" || block.Term.To[0] != -77 || block.Body[0].Op != -1 {
 		t.Error("not all is spoilt")
 	}
 }

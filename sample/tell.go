@@ -24,7 +24,7 @@ func Tell(s api.SSA) string {
 			for _, v := range block.Body {
 				b.WriteString(tellValue(s, f, v) + ";")
 			}
-			b.WriteString(tellTerm(block.Term) + "\n")
+			b.WriteString(tellTerm(block.Term, " v") + "\n")
 		}
 	}
 	return b.String()
@@ -56,10 +56,11 @@ func tellConstant(v api.Value) string {
 	return strconv.Itoa(v.Imm)
 }
 
-func tellTerm(t api.Term) string {
+// tellTerm writes the end of a block, with what stands ahead of its Value's number.
+func tellTerm(t api.Term, ahead string) string {
 	text := []string{"", " jump", " branch", " return", " panic"}[t.Kind]
 	if t.Value != -1 {
-		text += " v" + strconv.Itoa(t.Value)
+		text += ahead + strconv.Itoa(t.Value)
 	}
 	return text + numbers(" ", t.To)
 }

@@ -75,7 +75,7 @@ func (m *Machine) done(number int) {
 
 func (m *Machine) nextInput() {
 	if len(m.input) == 0 {
-		m.fail(api.PanicInput, 0)
+		m.told.Panic(api.PanicInput, 0)
 		return
 	}
 	m.pushNumber(m.input[0])
@@ -85,23 +85,24 @@ func (m *Machine) nextInput() {
 func (m *Machine) newArray() {
 	size := m.pop().number
 	if size < 0 {
-		m.fail(api.PanicMake, 0)
+		m.told.Panic(api.PanicMake, 0)
 		return
 	}
 	m.push(value{array: &array{size: size}})
-	left := api.MaxWords - m.outcome.Words // size is held against it as it stands: a sum with size could leave int64
+	left := api.MaxWords - m.words // size is held against it as it stands: a sum with size could leave int64
 	if size >= left {
-		m.outcome.Words = api.MaxWords
+		m.words = api.MaxWords
 	} else {
-		m.outcome.Words += size + 1
+		m.words += size + 1
 	}
+	m.told.Words(m.words)
 }
 
 func (m *Machine) index() {
 	i := m.pop().number
 	a := m.pop().array
 	if !a.has(i) {
-		m.fail(api.PanicIndex, 0)
+		m.told.Panic(api.PanicIndex, 0)
 		return
 	}
 	m.pushNumber(a.get(i))
@@ -125,9 +126,9 @@ func (m *Machine) binary(op int) {
 	l := m.pop()
 	switch {
 	case (op == api.OpDiv || op == api.OpRem) && r.number == 0:
-		m.fail(api.PanicDivide, 0)
+		m.told.Panic(api.PanicDivide, 0)
 	case (op == api.OpShl || op == api.OpShr) && r.number < 0:
-		m.fail(api.PanicShift, 0)
+		m.told.Panic(api.PanicShift, 0)
 	default:
 		m.pushNumber(combine(op, l, r))
 	}

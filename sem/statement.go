@@ -76,7 +76,7 @@ func (m *Machine) setAt(number int) {
 	i := m.pop().number
 	a := m.variables[m.place(m.program.Means[number])].array
 	if !a.has(i) {
-		m.fail(api.PanicIndex, 0)
+		m.told.Panic(api.PanicIndex, 0)
 		return
 	}
 	a.set(i, v)
@@ -94,22 +94,15 @@ func (m *Machine) drop(typ int) task {
 
 // print tells an event; where no more of them may be told, the run rests.
 func (m *Machine) print(typ int) task {
-	return func() bool {
-		if len(m.outcome.Events) == api.MaxEvents {
-			m.rests = true
-			return false
-		}
-		e := api.Event{Kind: api.EventInt, Value: m.pop().number}
-		if typ == api.TypeBool {
-			e.Kind = api.EventBool
-		}
-		m.outcome.Events = append(m.outcome.Events, e)
-		return true
+	kind := api.EventInt
+	if typ == api.TypeBool {
+		kind = api.EventBool
 	}
+	return func() bool { return m.told.Event(kind, m.pop().number) }
 }
 
 func (m *Machine) panics() bool {
-	m.fail(api.PanicUser, m.pop().number)
+	m.told.Panic(api.PanicUser, m.pop().number)
 	return true
 }
 

@@ -1,7 +1,5 @@
 package sem
 
-import "quern/api"
-
 // task is a part of what is still to be done. It tells whether it was a step: what is decided between two steps is a task too.
 type task func() bool
 
@@ -31,7 +29,7 @@ func (m *Machine) activate(function int) task {
 		kids := m.node(function).Kids
 		params, block := len(kids)-1, kids[len(kids)-1]
 		m.activations = append(m.activations, activation{len(m.todo), len(m.variables), len(m.loops)})
-		m.outcome.Depth = max(m.outcome.Depth, len(m.activations))
+		m.told.Deep(len(m.activations))
 		arguments := len(m.values) - params
 		m.variables = append(m.variables, m.values[arguments:]...)
 		m.values = m.values[:arguments]
@@ -50,14 +48,7 @@ func (m *Machine) end() bool {
 	m.variables = m.variables[:a.variables]
 	m.loops = m.loops[:a.loops]
 	if last == 0 {
-		m.outcome.End = api.Exit
+		m.told.Exit()
 	}
 	return true
-}
-
-// fail ends the run with a panic.
-func (m *Machine) fail(kind, value int) {
-	m.outcome.End = api.Panic
-	m.outcome.Kind = kind
-	m.outcome.Value = value
 }

@@ -21,14 +21,14 @@ func (m *Machine) begin(function int, arguments []int) {
 	for i, param := range m.here.function.Params {
 		m.set(param, arguments[i])
 	}
-	m.outcome.Depth = max(m.outcome.Depth, len(m.waiting)+1)
+	m.told.Deep(len(m.waiting) + 1)
 }
 
 // back ends the activation that runs; the one that called it goes on behind its Call.
 func (m *Machine) back(value int) {
 	last := len(m.waiting) - 1
 	if last < 0 {
-		m.outcome.End = api.Exit
+		m.told.Exit()
 		return
 	}
 	ended := m.numbers[m.here.first:]

@@ -22,24 +22,11 @@ func TestDrawnAgainstOracle(t *testing.T) {
 		s, input := sample.DrawSSA(&d), d.Input()
 		want := oracleRun(s, input, fuel, api.MaxEvents)
 		m := start(t, s, input)
-		switch d.Below(3) {
-		case 0:
-			m.Run(fuel)
-		case 1:
-			for range fuel {
-				m.Step()
-			}
-		case 2:
-			for left := fuel; left > 0; {
-				piece := d.Below(min(left, 40) + 1)
-				m.Run(piece)
-				left -= piece
-			}
-		}
+		d.Drive(m, fuel)
 		if is := m.Outcome(); told(is) != told(want) {
 			t.Fatalf("%+v, input %v:\n%s, want\n%s", s, input, told(is), told(want))
 		}
-		count(ending(api.Outcome{End: want.End, Kind: want.Kind}), true)
+		count(sample.Ending(api.Outcome{End: want.End, Kind: want.Kind}), true)
 		count("steps", want.Steps > 50)
 		count("depth", want.Depth > 2 && want.End == api.Exit)
 		count("events", len(want.Events) > 10)

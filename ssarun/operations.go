@@ -56,12 +56,12 @@ func (m *Machine) arg(v api.Value, i int) int {
 
 // panics ends the run with a panic.
 func (m *Machine) panics(kind, value int) (int, bool) {
-	m.outcome.End, m.outcome.Kind, m.outcome.Value = api.Panic, kind, value
+	m.told.Panic(kind, value)
 	return 0, false
 }
 
 func (m *Machine) stuck(reason int) (int, bool) {
-	m.outcome.End, m.outcome.Kind = api.Stuck, reason
+	m.told.Stuck(reason)
 	return 0, false
 }
 
@@ -119,7 +119,7 @@ func (m *Machine) alloc(v api.Value) (int, bool) {
 	if !ok {
 		return m.panics(api.PanicHeap, 0)
 	}
-	m.outcome.Words = m.heap.Words()
+	m.told.Words(m.heap.Words())
 	return address, true
 }
 
@@ -147,13 +147,8 @@ func (m *Machine) printInt(v api.Value) (int, bool) { return m.tell(api.EventInt
 
 func (m *Machine) printBool(v api.Value) (int, bool) { return m.tell(api.EventBool, m.arg(v, 0)) }
 
-// tell tells an event; where no more of them may be told, the run rests.
 func (m *Machine) tell(kind, value int) (int, bool) {
-	if len(m.outcome.Events) == api.MaxEvents {
-		m.rests = true
-	} else {
-		m.outcome.Events = append(m.outcome.Events, api.Event{Kind: kind, Value: value})
-	}
+	m.told.Event(kind, value)
 	return 0, false
 }
 

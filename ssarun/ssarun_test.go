@@ -22,6 +22,8 @@ func start(t testing.TB, s api.SSA, input []int) *ssarun.Machine {
 	return m
 }
 
+func told(o api.Outcome) string { return sample.Told(o) }
+
 // row is a program with its input, and what its run tells.
 type row struct {
 	text  string
@@ -34,26 +36,8 @@ func holdRows(t *testing.T, rows []row) {
 	t.Helper()
 	for _, r := range rows {
 		s := sample.SSA(r.text)
-		o, err := start(t, s, r.input).Run(100000)
-		if err != api.OK || told(o) != r.want {
-			t.Errorf("%s %v:\n%s %v, want\n%s", r.text, r.input, told(o), err, r.want)
-			continue
-		}
-		single := start(t, s, r.input)
-		for steps := range o.Steps {
-			if x := single.Outcome(); x.End != api.Running || x.Steps != steps || !single.Step() {
-				t.Errorf("%s: %s at the step %d", r.text, told(x), steps)
-			}
-		}
-		if single.Step() || told(single.Outcome()) != r.want {
-			t.Errorf("%s, step by step: %s, want %s", r.text, told(single.Outcome()), r.want)
-		}
-		for first := range o.Steps + 2 {
-			m := start(t, s, r.input)
-			m.Run(first)
-			if p, _ := m.Run(max(0, o.Steps-first)); told(p) != r.want {
-				t.Errorf("%s, %d steps and the others: %s, want %s", r.text, first, told(p), r.want)
-			}
+		if no := sample.Hold(func() sample.Machine { return start(t, s, r.input) }, r.want); no != "" {
+			t.Errorf("%s %v:\n%s", r.text, r.input, no)
 		}
 	}
 }
@@ -177,20 +161,8 @@ func TestP1002BehindTheEnd(t *testing.T) {
 		{"0: a const 0; print a; b div a a; print a; return", nil, "0 stuck zero 3 0 1"},
 		{"0: a const 0; b alloc a; c input; print a; return", nil, "panic input 3 1 1"},
 	}) {
-		m := start(t, sample.SSA(r.text), r.input)
-		m.Run(50)
-		for range 3 {
-			if m.Step() {
-				t.Errorf("%s: a step behind the end", r.text)
-			}
-			for _, fuel := range []int{0, 1, 100, api.MaxFuel} {
-				if o, err := m.Run(fuel); err != api.OK || told(o) != r.want {
-					t.Errorf("%s: Run(%d) behind the end: %s %v", r.text, fuel, told(o), err)
-				}
-			}
-			if is := told(m.Outcome()); is != r.want {
-				t.Errorf("%s: behind the end: %s", r.text, is)
-			}
+		if no := sample.HoldEnd(start(t, sample.SSA(r.text), r.input), r.want); no != "" {
+			t.Errorf("%s: %s", r.text, no)
 		}
 	}
 }
@@ -389,9 +361,9 @@ func TestP1004Arithmetic(t *testing.T) {
 				case (op == "shl" || op == "shr") && b < 0:
 					want = "stuck shift 3 0 1"
 				case number >= api.InsEq:
-					want = strconv.FormatBool(arithmetic(number, []int{a, b}) == 1) + " exit 5 0 1"
+					want = strconv.FormatBool(sample.Arithmetic(number, []int{a, b}) == 1) + " exit 5 0 1"
 				default:
-					want = strconv.Itoa(arithmetic(number, []int{a, b})) + " exit 5 0 1"
+					want = strconv.Itoa(sample.Arithmetic(number, []int{a, b})) + " exit 5 0 1"
 				}
 				if told(o) != want {
 					t.Errorf("%s of %d and %d: %s, want %s", op, a, b, told(o), want)
@@ -400,7 +372,7 @@ func TestP1004Arithmetic(t *testing.T) {
 		}
 		for i, op := range []string{"neg", "inv"} {
 			s := sample.SSA("main()\n0: a input; c " + op + " a; print c; return")
-			if o, _ := start(t, s, []int{a}).Run(9); told(o) != strconv.Itoa(arithmetic(api.InsNeg+i, []int{a}))+" exit 4 0 1" {
+			if o, _ := start(t, s, []int{a}).Run(9); told(o) != strconv.Itoa(sample.Arithmetic(api.InsNeg+i, []int{a}))+" exit 4 0 1" {
 				t.Errorf("%s of %d: %s", op, a, told(o))
 			}
 		}

@@ -1,4 +1,4 @@
-package ssarun_test
+package sample
 
 import (
 	"strconv"
@@ -7,8 +7,8 @@ import (
 	"quern/api"
 )
 
-// told is an outcome in words: its events; its ending; its steps, words and depth.
-func told(o api.Outcome) string {
+// Told is an outcome in words: its events; its ending; its steps, words and depth.
+func Told(o api.Outcome) string {
 	var b strings.Builder
 	for _, e := range o.Events {
 		switch {
@@ -23,14 +23,12 @@ func told(o api.Outcome) string {
 		}
 		b.WriteString(" ")
 	}
-	b.WriteString(ending(o))
-	for _, n := range []int{o.Steps, o.Words, o.Depth} {
-		b.WriteString(" " + strconv.Itoa(n))
-	}
-	return b.String()
+	b.WriteString(Ending(o))
+	return b.String() + numbers(" ", []int{o.Steps, o.Words, o.Depth})
 }
 
-func ending(o api.Outcome) string {
+// Ending is how a run has ended, in words.
+func Ending(o api.Outcome) string {
 	kind, value := " kind "+strconv.Itoa(o.Kind), " value "+strconv.Itoa(o.Value)
 	switch {
 	case o.End == api.Panic && o.Kind >= api.PanicDivide && o.Kind <= api.PanicHeap:
@@ -40,8 +38,8 @@ func ending(o api.Outcome) string {
 		} else if o.Value == 0 {
 			value = ""
 		}
-	case o.End == api.Stuck && o.Value == 0 && o.Kind >= api.StuckBlock && o.Kind <= api.StuckShift:
-		kind, value = []string{"", " block", " element", " zero", " shift"}[o.Kind], ""
+	case o.End == api.Stuck && o.Value == 0 && o.Kind >= api.StuckBlock && o.Kind <= api.StuckBool:
+		kind, value = []string{"", " block", " element", " zero", " shift", " bool"}[o.Kind], ""
 	case (o.End == api.Running || o.End == api.Exit) && o.Kind == 0 && o.Value == 0:
 		kind, value = "", ""
 	}
