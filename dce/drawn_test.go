@@ -5,13 +5,9 @@ import (
 	"testing"
 
 	"quern/api"
-	"quern/build"
 	"quern/dce"
-	"quern/lex"
-	"quern/parse"
 	"quern/sample"
 	"quern/ssarun"
-	"quern/types"
 )
 
 // The oracle asks the chapter's sentences one by one, with no thought of time.
@@ -193,32 +189,11 @@ func TestDrawnAgainstOracle(t *testing.T) {
 		"gone on where the whole is stuck")
 }
 
-// built is the SSA of a text.
-func built(t testing.TB, text string) api.SSA {
-	t.Helper()
-	tokens, place, e := lex.Tokens([]byte(text))
-	if e != api.OK {
-		t.Fatalf("lex: %v at %d of %s", e, place, text)
-	}
-	tree, _, place, e := parse.Parse(tokens, len(text))
-	if e == api.OK {
-		tree, place, e = types.Types(tree)
-	}
-	var s api.SSA
-	if e == api.OK {
-		s, place, e = build.Build(tree)
-	}
-	if e != api.OK {
-		t.Fatalf("%v at %d of %s", e, place, text)
-	}
-	return s
-}
-
 // TestDrawnTexts cleans what was made of texts: it is never stuck, and every value is wanted.
 func TestDrawnTexts(t *testing.T) {
 	d, c := sample.Dice(1203), counts{}
 	for i := range 1500 {
-		s := built(t, sample.DrawText(&d, 3+d.Below(40), i%2 == 0))
+		s := sample.Built(sample.DrawText(&d, 3+d.Below(40), i%2 == 0))
 		holdDrawn(t, &d, s, c)
 	}
 	if c["stuck"] > 0 {

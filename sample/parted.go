@@ -14,6 +14,21 @@ func Parted(s api.SSA) bool {
 		apart(blocks, func(n int) api.Block { return api.Block{Term: api.Term{Kind: n}} }, func(b api.Block) int { return b.Term.Kind })
 }
 
+// PartedLIR is Parted of LIR.
+func PartedLIR(l api.LIR) bool {
+	var bodies [][]api.LIns
+	var blocks [][]api.LBlock
+	for _, f := range l.Funcs {
+		blocks = append(blocks, f.Blocks)
+		for _, b := range f.Blocks[:cap(f.Blocks)] {
+			bodies = append(bodies, b.Body)
+		}
+	}
+	return apart(LIRLists(l), func(n int) int { return n }, func(n int) int { return n }) &&
+		apart(bodies, func(n int) api.LIns { return api.LIns{Op: n} }, func(x api.LIns) int { return x.Op }) &&
+		apart(blocks, func(n int) api.LBlock { return api.LBlock{Term: api.Term{Kind: n}} }, func(b api.LBlock) int { return b.Term.Kind })
+}
+
 // apart writes over each list, up to the end of its room, what tells its number; and then looks whether all still tell theirs.
 func apart[T any](lists [][]T, mark func(number int) T, told func(x T) int) bool {
 	for i, list := range lists {

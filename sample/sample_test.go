@@ -74,6 +74,22 @@ func TestDrawn(t *testing.T) {
 	}
 }
 
+func TestBuilt(t *testing.T) {
+	if is, want := sample.Tell(sample.Built("func main() { print(3); }")), "main()\n0: v0 const 3; v1 print v0; return\n"; is != want {
+		t.Errorf("%s, want %s", is, want)
+	}
+	for _, text := range []string{"$", "func", "", "func main() { var x int = true; }", "func main() {} func f(a int, b int, c int, d int, e int, f int, g int, h int, i int) {}"} {
+		func() {
+			defer func() {
+				if recover() == nil {
+					t.Errorf("%s is built", text)
+				}
+			}()
+			sample.Built(text)
+		}()
+	}
+}
+
 func TestWrongs(t *testing.T) {
 	var met []api.Errno
 	for _, x := range sample.Wrongs() {
@@ -182,6 +198,23 @@ func TestMemoryLIR(t *testing.T) {
 	body[:cap(body)][len(body)].Imm--
 	if sample.ShapeLIR(l) != before || !strings.Contains(before, "spare") {
 		t.Error("two shapes of one program")
+	}
+	if !sample.PartedLIR(sample.SpacedLIR(l)) {
+		t.Error("parted lists are told to share memory")
+	}
+	for what, share := range map[string]func(f []api.LFunc){
+		"numbers":            func(f []api.LFunc) { f[0].Blocks[1].Body[0].Args = f[0].Params[1:] },
+		"numbers' room":      func(f []api.LFunc) { f[0].Blocks[1].Body[0].Args = f[0].Params[2:] },
+		"instructions":       func(f []api.LFunc) { f[0].Blocks[1].Body = f[0].Blocks[0].Body[2:] },
+		"instructions' room": func(f []api.LFunc) { f[0].Blocks[3].Body = f[0].Blocks[0].Body[3:] },
+		"blocks":             func(f []api.LFunc) { f[1].Blocks = f[0].Blocks[2:] },
+		"blocks' room":       func(f []api.LFunc) { f[1].Blocks = f[0].Blocks[5:] },
+	} {
+		shared := sample.SpacedLIR(l)
+		share(shared.Funcs)
+		if sample.PartedLIR(shared) {
+			t.Errorf("lists of %s that share memory are not told", what)
+		}
 	}
 	block := l.Funcs[0].Blocks[0]
 	sample.SpoilLIR(l)
