@@ -46,3 +46,8 @@ func apart[T any](lists [][]T, mark func(number int) T, told func(x T) int) bool
 	}
 	return true
 }
+
+// ApartLists tells whether no two lists share memory, spare room included. They are spoilt by it.
+func ApartLists(lists [][]int) bool {
+	return apart(lists, func(n int) int { return n }, func(n int) int { return n })
+}

@@ -222,3 +222,22 @@ func TestMemoryLIR(t *testing.T) {
 		t.Error("not all is spoilt")
 	}
 }
+
+func TestApartLists(t *testing.T) {
+	list := []int{1, 2, 3, 4}
+	for _, x := range []struct {
+		lists [][]int
+		want  bool
+	}{
+		{nil, true},
+		{[][]int{nil, {}, {1}, {1, 2}}, true},
+		{[][]int{list[:2:2], nil, list[2:]}, true},
+		{[][]int{list[:2], list[2:]}, false},
+		{[][]int{list, list}, false},
+		{[][]int{list[3:], {5}, list[:0]}, false},
+	} {
+		if is := sample.ApartLists(x.lists); is != x.want {
+			t.Errorf("%v: %t", x.lists, is)
+		}
+	}
+}
