@@ -39,7 +39,7 @@ func (m *Machine) begin(number int, arguments []int) {
 	for i, param := range f.params {
 		m.set(param, arguments[i])
 	}
-	m.told.Deep(m.depth())
+	m.Told.Deep(m.depth())
 }
 
 // call lets the activation that runs wait for another one. What it hands over is read ahead of setting any: both may have the same registers.
@@ -66,7 +66,7 @@ func (m *Machine) leave(at end) {
 	case back:
 		m.back(e.register)
 	case crash:
-		m.told.Panic(api.PanicUser, m.get(e.register))
+		m.Told.Panic(api.PanicUser, m.get(e.register))
 	}
 }
 
@@ -76,7 +76,7 @@ func (m *Machine) enter(block int) { m.here.block, m.here.behind = &m.here.funct
 func (m *Machine) back(register int) {
 	last := len(m.waiting) - 1
 	if last < 0 {
-		m.told.Exit()
+		m.Told.Exit()
 		return
 	}
 	number := 0

@@ -10,13 +10,18 @@ import (
 // none stands where an instruction sets no register, and where the end of a block reads none.
 const none = -1
 
-// fits tells whether a program has the form of LIR: what it names is there.
-func fits(l api.LIR) bool {
+// hasForm tells whether a program has the form of LIR.
+func hasForm(l api.LIR) bool { return Fits(l) && !slices.ContainsFunc(l.Funcs, hasTooMany) }
+
+func hasTooMany(f api.LFunc) bool { return f.Regs > api.MaxRegs }
+
+// Fits tells whether a program has the form of LIR, but that its functions may have more registers: package alir asks it of places, of which there are more.
+func Fits(l api.LIR) bool {
 	if !names.All(l.Funcs, func(f api.LFunc) string { return f.Name }) || !mainFits(l) {
 		return false
 	}
 	for _, f := range l.Funcs {
-		if !Formed(f) || !callsFit(f, l.Funcs) {
+		if !functionFits(f) || !callsFit(f, l.Funcs) {
 			return false
 		}
 	}
@@ -47,8 +52,10 @@ func callFits(x api.LIns, all []api.LFunc) bool {
 }
 
 // Formed tells whether a function has the form of one, whatever its name is and whatever it calls.
-func Formed(f api.LFunc) bool {
-	if f.Regs < 0 || f.Regs > api.MaxRegs || !paramsFit(f) || !isTypeOrNone(f.Result) || len(f.Blocks) == 0 {
+func Formed(f api.LFunc) bool { return functionFits(f) && !hasTooMany(f) }
+
+func functionFits(f api.LFunc) bool {
+	if f.Regs < 0 || !paramsFit(f) || !isTypeOrNone(f.Result) || len(f.Blocks) == 0 {
 		return false
 	}
 	for _, b := range f.Blocks {

@@ -37,3 +37,14 @@ func (d *Dice) Input() []int {
 	}
 	return list
 }
+
+// shuffled are the numbers below n in an order that is drawn.
+func shuffled(d *Dice, n int) []int {
+	list := make([]int, n)
+	for i := range list {
+		j := d.Below(i + 1)
+		list[i] = list[j]
+		list[j] = i
+	}
+	return list
+}

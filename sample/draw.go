@@ -251,12 +251,7 @@ func Mixed(d *Dice, s api.SSA) api.SSA {
 
 // mix gives the values of a function other numbers.
 func mix(d *Dice, f *api.SFunc) {
-	to := make([]int, len(f.Values))
-	for i := range to {
-		j := d.Below(i + 1)
-		to[i] = to[j]
-		to[j] = i
-	}
+	to := shuffled(d, len(f.Values))
 	renumber := func(list []int) {
 		for i := range list {
 			list[i] = to[list[i]]

@@ -19,22 +19,13 @@ import (
 // registers as its text names, with all below these. It panics where a text is of another form.
 func LIR(text string) api.LIR {
 	var l api.LIR
-	var parts [][]string // of each function the lines of its blocks
-	for line := range strings.Lines(text) {
-		line = strings.TrimSpace(line)
-		switch {
-		case line == "":
-		case strings.Contains(line, ":"):
-			last := &parts[len(parts)-1]
-			*last = append(*last, line)
-		default:
-			parts = append(parts, nil)
-			l.Funcs = append(l.Funcs, headLIR(line)) // ahead of all calls of it
-		}
+	parts := functionsIn(text)
+	for _, lines := range parts {
+		l.Funcs = append(l.Funcs, headLIR(lines[0])) // ahead of all calls of it
 	}
 	for i, lines := range parts {
 		f := &l.Funcs[i]
-		for _, line := range lines {
+		for _, line := range lines[1:] {
 			f.Blocks = append(f.Blocks, blockLIR(l, line))
 		}
 		f.Regs = max(f.Regs, named(*f))
@@ -44,21 +35,35 @@ func LIR(text string) api.LIR {
 }
 
 func headLIR(line string) api.LFunc {
-	name, rest, _ := strings.Cut(line, "(")
-	f := api.LFunc{Name: name}
-	for _, p := range params(line) {
+	h := headOf(line, "regs")
+	f := api.LFunc{Name: h.name, Result: h.result, Regs: h.size}
+	for _, p := range h.params {
 		f.Params = append(f.Params, register(p))
 	}
+	return f
+}
+
+// head is the line ahead of a function's blocks.
+type head struct {
+	name         string
+	params       []string
+	result, size int
+}
+
+// headOf reads a head; what stands behind that word is its size.
+func headOf(line, word string) head {
+	name, rest, _ := strings.Cut(line, "(")
+	h := head{name: name, params: params(line)}
 	_, rest, _ = strings.Cut(rest, ")")
 	words := strings.Fields(rest)
-	if len(words) > 0 && words[0] != "regs" {
-		f.Result = typeOf(words[0])
+	if len(words) > 0 && words[0] != word {
+		h.result = typeOf(words[0])
 		words = words[1:]
 	}
 	if len(words) > 0 {
-		f.Regs = number(words[1])
+		h.size = number(words[1])
 	}
-	return f
+	return h
 }
 
 func register(name string) int {
@@ -86,19 +91,25 @@ func insLIR(l api.LIR, words []string) api.LIns {
 		words = words[1:]
 	}
 	x.Op = must(opOf(words[0]), words[0])
-	args := words[1:]
-	switch x.Op {
-	case api.InsCall:
-		x.Imm = must(slices.IndexFunc(l.Funcs, func(f api.LFunc) bool { return f.Name == args[0] }), args[0])
-		args = args[1:]
-	case api.InsConst, api.InsTrapZero, api.InsTrapNeg, api.InsTrapBound:
-		x.Imm = number(args[0])
-		args = args[1:]
-	}
+	imm, args := operand(x.Op, words[1:], func(name string) int {
+		return slices.IndexFunc(l.Funcs, func(f api.LFunc) bool { return f.Name == name })
+	})
+	x.Imm = imm
 	for _, a := range args {
 		x.Args = append(x.Args, register(a))
 	}
 	return x
+}
+
+// operand is the Imm of an instruction, if one stands ahead of its Args, and these.
+func operand(op int, words []string, called func(name string) int) (int, []string) {
+	switch op {
+	case api.InsCall:
+		return must(called(words[0]), words[0]), words[1:]
+	case api.InsConst, api.InsTrapZero, api.InsTrapNeg, api.InsTrapBound:
+		return number(words[0]), words[1:]
+	}
+	return 0, words
 }
 
 // named is one more than the greatest register that a function names.
@@ -123,11 +134,7 @@ func named(f api.LFunc) int {
 func TellLIR(l api.LIR) string {
 	var b strings.Builder
 	for _, f := range l.Funcs {
-		b.WriteString(f.Name + "(" + strings.ReplaceAll(strings.TrimSpace(numbers(" r", f.Params)), " ", ", ") + ")")
-		if f.Result != api.TypeNone {
-			b.WriteString(" " + typeNames[f.Result])
-		}
-		b.WriteString(" regs " + strconv.Itoa(f.Regs) + "\n")
+		b.WriteString(tellHead(f.Name, numbers(" r", f.Params), f.Result) + " regs " + strconv.Itoa(f.Regs) + "\n")
 		for i, block := range f.Blocks {
 			b.WriteString(strconv.Itoa(i) + ":")
 			for _, x := range block.Body {
@@ -139,16 +146,29 @@ func TellLIR(l api.LIR) string {
 	return b.String()
 }
 
+func tellHead(name, params string, result int) string {
+	return strings.TrimSpace(name + "(" + strings.ReplaceAll(strings.TrimSpace(params), " ", ", ") + ") " + typeNames[result])
+}
+
 func tellIns(l api.LIR, x api.LIns) string {
-	text := " " + opNames[x.Op]
+	name := ""
+	if x.Op == api.InsCall {
+		name = l.Funcs[x.Imm].Name
+	}
+	text := tellOp(x.Op, x.Imm, name)
 	if x.Dst != -1 {
 		text = " r" + strconv.Itoa(x.Dst) + text
 	}
-	switch x.Op {
-	case api.InsCall:
-		text += " " + l.Funcs[x.Imm].Name
-	case api.InsConst, api.InsTrapZero, api.InsTrapNeg, api.InsTrapBound:
-		text += " " + strconv.Itoa(x.Imm)
-	}
 	return text + numbers(" r", x.Args)
+}
+
+// tellOp writes what stands behind the Dst and ahead of the Args; a call's function has that name.
+func tellOp(op, imm int, called string) string {
+	switch op {
+	case api.InsCall:
+		return " call " + called
+	case api.InsConst, api.InsTrapZero, api.InsTrapNeg, api.InsTrapBound:
+		return " " + opNames[op] + " " + strconv.Itoa(imm)
+	}
+	return " " + opNames[op]
 }

@@ -38,25 +38,26 @@ func LIRLists(l api.LIR) (all [][]int) {
 	return all
 }
 
+// cover writes over a list, up to the end of its room.
+func cover[T any](list []T, with T) {
+	list = list[:cap(list)]
+	for i := range list {
+		list[i] = with
+	}
+}
+
 // SpoilLIR writes over all that a program has, spare room included.
 func SpoilLIR(l api.LIR) {
 	for _, list := range LIRLists(l) {
-		list = list[:cap(list)]
-		for i := range list {
-			list[i] = -77
-		}
+		cover(list, -77)
 	}
 	for _, f := range l.Funcs[:cap(l.Funcs)] {
 		for _, b := range f.Blocks[:cap(f.Blocks)] {
-			for k := range b.Body[:cap(b.Body)] {
-				b.Body[:cap(b.Body)][k] = api.LIns{Op: -1}
-			}
+			cover(b.Body, api.LIns{Op: -1})
 		}
-		for b := range f.Blocks[:cap(f.Blocks)] {
-			f.Blocks[:cap(f.Blocks)][b] = api.LBlock{Term: api.Term{Kind: -1}}
-		}
+		cover(f.Blocks, api.LBlock{Term: api.Term{Kind: -1}})
 	}
-	clear(l.Funcs[:cap(l.Funcs)])
+	cover(l.Funcs, api.LFunc{})
 }
 
 // ShapeLIR tells all that a program has, spare room included.

@@ -26,7 +26,19 @@ var typeNames = []string{"", "int", "bool", "ints"}
 // where all values of a function have names such as v7, these are their numbers. It panics where a text is of another form.
 func SSA(text string) api.SSA {
 	r := &reader{}
-	var parts [][]string // of each function its lines
+	parts := functionsIn(text)
+	for _, lines := range parts {
+		r.head(lines[0]) // ahead of all calls of it
+	}
+	for i, lines := range parts {
+		r.function(&r.s.Funcs[i], lines)
+	}
+	r.s.Main = r.called("main")
+	return r.s
+}
+
+// functionsIn are of each function in a text its lines: its head, then its blocks.
+func functionsIn(text string) (parts [][]string) {
 	for line := range strings.Lines(text) {
 		line = strings.TrimSpace(line)
 		switch {
@@ -36,14 +48,9 @@ func SSA(text string) api.SSA {
 			*last = append(*last, line)
 		default:
 			parts = append(parts, []string{line})
-			r.head(line) // ahead of all calls of it
 		}
 	}
-	for i, lines := range parts {
-		r.function(&r.s.Funcs[i], lines)
-	}
-	r.s.Main = r.called("main")
-	return r.s
+	return parts
 }
 
 // reader has the functions as they grow, and of the one that is read the numbers of its values, by their places and by their names.

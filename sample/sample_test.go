@@ -4,6 +4,7 @@ import (
 	"strings"
 	"testing"
 
+	"quern/alir"
 	"quern/api"
 	"quern/lex"
 	"quern/lir"
@@ -239,5 +240,137 @@ func TestApartLists(t *testing.T) {
 		if is := sample.ApartLists(x.lists); is != x.want {
 			t.Errorf("%v: %t", x.lists, is)
 		}
+	}
+}
+
+const allALIR = `f(r3, s1) bool slots 9
+0: r0 const -3; s2 input; r7 move s2; branch s1 1 2
+1: r4 add r0 s3; s5 call f r4 s1; call f r4 s5 save 0 7; r1 call f s1 s1 save 3; jump 2
+2: print r3; printbool s1; trapbound 2 r3 s0; trapzero 5 r0; store r3 r3 s0; branch r1 3 4
+3: return s1
+4: panic r0
+main() slots 0
+0: call g; return
+g() slots 1
+0: s0 alloc s0; return
+`
+
+func TestReadAndTellALIR(t *testing.T) {
+	a := sample.ALIR(allALIR)
+	if a.Main != 1 || a.Funcs[0].Slots != 9 || len(a.Funcs[0].Params) != 2 || len(a.Funcs[0].Blocks[1].Body[2].Saves) != 2 || sample.TellALIR(a) != allALIR {
+		t.Errorf("main %d:\n%s", a.Main, sample.TellALIR(a))
+	}
+	if is, want := sample.TellALIR(sample.ALIR("main()\n0: s1 const 1; r0 neg s1; panic s7")), "main() slots 8\n0: s1 const 1; r0 neg s1; panic s7\n"; is != want {
+		t.Errorf("%s, want %s", is, want)
+	}
+	for _, text := range []string{"main()\n0: r1 nothing r0; return", "main()\n0: print b; return", "main()\n0: a const 1; return", "main()\n0: s const 1; return", "main()\n0: call main save r1; return",
+		"main()\n0: leave", "main()\n0: call g; return", "main() text\n0: return", "main() regs 3\n0: return"} {
+		func() {
+			defer func() {
+				if recover() == nil {
+					t.Errorf("%s is read", text)
+				}
+			}()
+			sample.ALIR(text)
+		}()
+	}
+}
+
+func TestDrawnALIR(t *testing.T) {
+	d := sample.Dice(1)
+	for i := range 1000 {
+		a := sample.DrawALIR(&d)
+		if i%2 == 0 {
+			a = sample.Placed(&d, sample.DrawLIR(&d))
+		}
+		told := sample.TellALIR(a)
+		again := sample.ALIR(told)
+		again.Main = a.Main
+		if e := alir.Check(a); e != api.OK || sample.TellALIR(sample.SpacedALIR(a)) != told || sample.ShapeALIR(sample.SpacedALIR(again)) != sample.ShapeALIR(sample.SpacedALIR(a)) {
+			t.Fatalf("%v:\n%s", e, told)
+		}
+	}
+}
+
+// TestPlaced: each register has a place of its own.
+func TestPlaced(t *testing.T) {
+	d := sample.Dice(1)
+	for range 100 {
+		l := sample.DrawLIR(&d)
+		a := sample.Placed(&d, l)
+		for i, f := range l.Funcs {
+			has, of := map[int]api.Loc{}, map[api.Loc]int{}
+			meet := func(r int, p api.Loc) {
+				if q, is := has[r]; is && q != p {
+					t.Errorf("the register %d is at %v and at %v", r, p, q)
+				}
+				if s, is := of[p]; is && s != r {
+					t.Errorf("the registers %d and %d are both at %v", r, s, p)
+				}
+				has[r], of[p] = p, r
+			}
+			for b, block := range f.Blocks {
+				for k, x := range block.Body {
+					y := a.Funcs[i].Blocks[b].Body[k]
+					meet(x.Dst, y.Dst)
+					for n, r := range x.Args {
+						meet(r, y.Args[n])
+					}
+					if x.Op == api.InsCall && len(y.Saves) != api.Allocated || x.Op != api.InsCall && len(y.Saves) > 0 {
+						t.Errorf("Saves %v", y.Saves)
+					}
+				}
+				meet(block.Term.Value, a.Funcs[i].Blocks[b].Term.Value)
+			}
+			for n, r := range f.Params {
+				meet(r, a.Funcs[i].Params[n])
+			}
+		}
+	}
+}
+
+func TestMemoryALIR(t *testing.T) {
+	a := sample.SpacedALIR(sample.ALIR(allALIR))
+	before := sample.ShapeALIR(a)
+	hold := func(what string, write func(by int)) {
+		write(1)
+		if sample.ShapeALIR(a) == before {
+			t.Errorf("%s: what was written is not told", what)
+		}
+		write(-1)
+	}
+	numbers, places := sample.ALIRLists(a)
+	for _, list := range numbers {
+		for i := range list[:cap(list)] {
+			hold("a number", func(by int) { list[:cap(list)][i] += by })
+		}
+	}
+	for _, list := range places {
+		for i := range list[:cap(list)] {
+			hold("a place's kind", func(by int) { list[:cap(list)][i].Kind += by })
+			hold("a place's number", func(by int) { list[:cap(list)][i].N += by })
+		}
+	}
+	for _, f := range a.Funcs {
+		for b := range f.Blocks[:cap(f.Blocks)] {
+			x := &f.Blocks[:cap(f.Blocks)][b]
+			hold("a Term", func(by int) { x.Term.Value.N += by })
+			for i := range x.Body[:cap(x.Body)] {
+				hold("an instruction", func(by int) { x.Body[:cap(x.Body)][i].Imm += by })
+				hold("a Dst", func(by int) { x.Body[:cap(x.Body)][i].Dst.Kind += by })
+			}
+		}
+	}
+	for i := range a.Funcs[:cap(a.Funcs)] {
+		hold("a function", func(by int) { a.Funcs[:cap(a.Funcs)][i].Slots += by })
+	}
+	if sample.ShapeALIR(a) != before || !strings.Contains(before, "spare") {
+		t.Error("two shapes of one program")
+	}
+	block := a.Funcs[0].Blocks[1]
+	args, saves := block.Body[0].Args, block.Body[2].Saves
+	sample.SpoilALIR(a)
+	if a.Funcs[0].Blocks != nil || a.Funcs[:cap(a.Funcs)][len(a.Funcs)].Name != "" || block.Term.To[0] != -77 || block.Body[0].Op != -1 || args[:cap(args)][2].Kind != -77 || saves[:cap(saves)][2] != -77 {
+		t.Error("not all is spoilt")
 	}
 }
