@@ -29,6 +29,23 @@ func PartedLIR(l api.LIR) bool {
 		apart(blocks, func(n int) api.LBlock { return api.LBlock{Term: api.Term{Kind: n}} }, func(b api.LBlock) int { return b.Term.Kind })
 }
 
+// PartedALIR is Parted of ALIR.
+func PartedALIR(a api.ALIR) bool {
+	var bodies [][]api.AIns
+	var blocks [][]api.ABlock
+	for _, f := range a.Funcs {
+		blocks = append(blocks, f.Blocks)
+		for _, b := range f.Blocks[:cap(f.Blocks)] {
+			bodies = append(bodies, b.Body)
+		}
+	}
+	numbers, places := ALIRLists(a)
+	return ApartLists(numbers) &&
+		apart(places, func(n int) api.Loc { return api.Loc{N: n} }, func(p api.Loc) int { return p.N }) &&
+		apart(bodies, func(n int) api.AIns { return api.AIns{Op: n} }, func(x api.AIns) int { return x.Op }) &&
+		apart(blocks, func(n int) api.ABlock { return api.ABlock{Term: api.ATerm{Kind: n}} }, func(b api.ABlock) int { return b.Term.Kind })
+}
+
 // apart writes over each list, up to the end of its room, what tells its number; and then looks whether all still tell theirs.
 func apart[T any](lists [][]T, mark func(number int) T, told func(x T) int) bool {
 	for i, list := range lists {

@@ -367,6 +367,25 @@ func TestMemoryALIR(t *testing.T) {
 	if sample.ShapeALIR(a) != before || !strings.Contains(before, "spare") {
 		t.Error("two shapes of one program")
 	}
+	if !sample.PartedALIR(sample.SpacedALIR(a)) {
+		t.Error("parted lists are told to share memory")
+	}
+	for what, share := range map[string]func(f []api.AFunc){
+		"numbers":            func(f []api.AFunc) { f[0].Blocks[1].Body[2].Saves = f[0].Blocks[0].Term.To },
+		"numbers' room":      func(f []api.AFunc) { f[0].Blocks[1].Body[2].Saves = f[0].Blocks[0].Term.To[2:] },
+		"places":             func(f []api.AFunc) { f[0].Blocks[1].Body[0].Args = f[0].Params[1:] },
+		"places' room":       func(f []api.AFunc) { f[0].Blocks[1].Body[0].Args = f[0].Params[2:] },
+		"instructions":       func(f []api.AFunc) { f[0].Blocks[1].Body = f[0].Blocks[0].Body[2:] },
+		"instructions' room": func(f []api.AFunc) { f[0].Blocks[3].Body = f[0].Blocks[0].Body[3:] },
+		"blocks":             func(f []api.AFunc) { f[1].Blocks = f[0].Blocks[2:] },
+		"blocks' room":       func(f []api.AFunc) { f[1].Blocks = f[0].Blocks[5:] },
+	} {
+		shared := sample.SpacedALIR(a)
+		share(shared.Funcs)
+		if sample.PartedALIR(shared) {
+			t.Errorf("lists of %s that share memory are not told", what)
+		}
+	}
 	block := a.Funcs[0].Blocks[1]
 	args, saves := block.Body[0].Args, block.Body[2].Saves
 	sample.SpoilALIR(a)
