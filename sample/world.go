@@ -62,6 +62,9 @@ func (w *World) stuckIf(is bool, reason int) {
 // Panic ends the run, as TermPanic does.
 func (w *World) Panic(value int) { w.end(api.Panic, api.PanicUser, value) }
 
+// Trap ends the run with a panic of any other kind.
+func (w *World) Trap(kind int) { w.end(api.Panic, kind, 0) }
+
 // Begin begins an activation.
 func (w *World) Begin() {
 	w.depth++
