@@ -1,6 +1,8 @@
 package r16
 
 import (
+	"math"
+
 	"quern/api"
 	"quern/names"
 )
@@ -43,20 +45,21 @@ func functionFits(c api.Code, f api.RFunc) bool {
 	}
 	list := c.Ins[f.First : f.First+f.Count]
 	for _, x := range list {
-		if !registersFit(x) || !numberFits(c, f, x) {
+		least, most := NumbersOf(x.Op, f, len(c.Funcs))
+		if !registersFit(x) || !within(x.N, least, most) {
 			return false
 		}
 	}
-	return isLast(list[f.Count-1].Op)
+	return IsLast(list[f.Count-1].Op)
 }
 
-// isLast tells whether nothing goes on behind an instruction of that Op.
-func isLast(op int) bool { return op == api.RJmp || op == api.RRet || op == api.RTrap }
+// IsLast tells whether nothing goes on behind an instruction of that Op: such a one ends each function.
+func IsLast(op int) bool { return op == api.RJmp || op == api.RRet || op == api.RTrap }
 
 // registersFit tells whether there is such an Op, and an instruction's registers are registers where the Op has them, and 0 where it has none.
 func registersFit(x api.Ins) bool {
-	count := registersOf(x.Op)
-	if count == noOp {
+	count := RegistersOf(x.Op)
+	if count == NoOp {
 		return false
 	}
 	for i, register := range [...]int{x.A, x.B, x.C} {
@@ -67,11 +70,11 @@ func registersFit(x api.Ins) bool {
 	return true
 }
 
-// noOp is what registersOf tells of a number that is none of an Op.
-const noOp = -1
+// NoOp is what RegistersOf tells of a number that is none of an Op.
+const NoOp = -1
 
-// registersOf tells how many registers an Op has: of A, B and C the first ones.
-func registersOf(op int) int {
+// RegistersOf tells how many registers an Op has: of A, B and C the first ones.
+func RegistersOf(op int) int {
 	switch op {
 	case api.RJmp, api.RCall, api.RRet:
 		return 0
@@ -83,24 +86,33 @@ func registersOf(op int) int {
 		api.RShl, api.RShr, api.REq, api.RNe, api.RLt, api.RLe, api.RLdx, api.RStx:
 		return 3
 	}
-	return noOp
+	return NoOp
 }
 
-// numberFits tells whether the N of an instruction of the function f is one that its Op may have.
-func numberFits(c api.Code, f api.RFunc, x api.Ins) bool {
-	switch x.Op {
-	case api.RLdi:
+// HasNumber tells whether an Op has an N.
+func HasNumber(op int) bool {
+	switch op {
+	case api.RLdi, api.RJmp, api.RBz, api.RBnz, api.RLds, api.RSts, api.RCall, api.RTrapZ, api.RTrapN, api.RTrapU, api.RTrap:
 		return true
-	case api.RJmp, api.RBz, api.RBnz:
-		return within(x.N, f.First, f.First+f.Count-1)
-	case api.RLds, api.RSts:
-		return within(x.N, wordCaller+1, f.Frame-1)
-	case api.RCall:
-		return within(x.N, 0, len(c.Funcs)-1)
-	case api.RTrapZ, api.RTrapN, api.RTrapU:
-		return within(x.N, api.PanicDivide, api.PanicInput)
-	case api.RTrap:
-		return within(x.N, api.PanicDivide, api.PanicUser)
 	}
-	return x.N == 0
+	return false
+}
+
+// NumbersOf tells the least and the most that N may be in an instruction of the function f, one of so many functions; where the Op has no N, it is 0.
+func NumbersOf(op int, f api.RFunc, functions int) (least, most int) {
+	switch op {
+	case api.RLdi:
+		return math.MinInt, math.MaxInt
+	case api.RJmp, api.RBz, api.RBnz:
+		return f.First, f.First + f.Count - 1
+	case api.RLds, api.RSts:
+		return wordCaller + 1, f.Frame - 1
+	case api.RCall:
+		return 0, functions - 1
+	case api.RTrapZ, api.RTrapN, api.RTrapU:
+		return api.PanicDivide, api.PanicInput
+	case api.RTrap:
+		return api.PanicDivide, api.PanicUser
+	}
+	return 0, 0
 }

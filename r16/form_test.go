@@ -298,3 +298,42 @@ func TestP2102Calls(t *testing.T) {
 		g(1)
 		8: call f; call main; call g; jmp 8`), true)
 }
+
+// TestWhatOpsHave holds what other packages ask of an Op against P2101's table.
+func TestWhatOpsHave(t *testing.T) {
+	for _, op := range append([]int{0, -1, 39, 40, 255, 256 + api.RRet}, wild...) {
+		if is := r16.RegistersOf(op); is != r16.NoOp || r16.HasNumber(op) || r16.IsLast(op) {
+			t.Errorf("%d: %d registers", op, is)
+		}
+	}
+	f := api.RFunc{Frame: 9, First: 20, Count: 5}
+	for _, op := range ops() {
+		has := strings.Contains(table[op], "N")
+		registers := len(strings.Fields(strings.TrimSuffix(table[op], "N")))
+		if is := r16.RegistersOf(op); is != registers || r16.HasNumber(op) != has {
+			t.Errorf("%d: %d registers, a number: %t, want %s", op, is, r16.HasNumber(op), table[op])
+		}
+		if is, want := r16.IsLast(op), op == api.RJmp || op == api.RRet || op == api.RTrap; is != want {
+			t.Errorf("%d: the last one: %t", op, is)
+		}
+		least, most := r16.NumbersOf(op, f, 4)
+		want := [2]int{}
+		switch op {
+		case api.RLdi:
+			want = [2]int{math.MinInt, math.MaxInt}
+		case api.RJmp, api.RBz, api.RBnz:
+			want = [2]int{20, 24}
+		case api.RLds, api.RSts:
+			want = [2]int{2, 8}
+		case api.RCall:
+			want = [2]int{0, 3}
+		case api.RTrapZ, api.RTrapN, api.RTrapU:
+			want = [2]int{1, 5}
+		case api.RTrap:
+			want = [2]int{1, 6}
+		}
+		if is := [2]int{least, most}; is != want {
+			t.Errorf("%d: %v, want %v", op, is, want)
+		}
+	}
+}
